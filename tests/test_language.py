@@ -1,0 +1,278 @@
+"""The rules of the language that can be seen in the code, over all files of the package.
+
+These are narrower than the rules where the package does without something: no handlers, no sets, no generators.
+"""
+
+import ast
+import builtins
+import keyword
+import re
+import unittest
+from pathlib import Path
+
+FOLDER = Path(__file__).resolve().parent.parent / "gridwright"
+FILES = {path.stem: path.read_text(encoding="utf-8") for path in sorted(FOLDER.glob("*.py"))}
+TREES = {name: ast.parse(text) for name, text in FILES.items()}
+
+BUILTINS = set(
+    "len range enumerate zip min max sum abs sorted reversed int str bool list tuple dict isinstance ord repr any all "
+    "divmod ValueError LookupError ArithmeticError NotImplemented property staticmethod super".split())
+LIBRARY = {"math": {"gcd", "lcm", "isqrt", "comb", "perm", "factorial"},
+           "itertools": {"product", "combinations", "permutations"},
+           "heapq": {"heappush", "heappop", "heapify", "heapreplace", "heappushpop"}}
+METHODS = set(
+    "append clear copy count endswith extend find get index insert isalnum isalpha isdigit islower isspace isupper items "
+    "join keys ljust lower lstrip partition pop remove replace reverse rfind rjust rpartition rsplit rstrip setdefault "
+    "split splitlines startswith strip update upper values zfill bit_length isascii".split())
+BARRED = set(
+    "register mro elements open input law version_info with_traceback add_note attrgetter breakpoint builtins compile "
+    "copyright credits delattr dir eval exec exit gc getattr globals hasattr help id importlib license locals methodcaller "
+    "os quit setattr type vars sys __name__ typing typing_extensions enum Enum IntEnum StrEnum Flag IntFlag Generic "
+    "Protocol ABC ABCMeta namedtuple NamedTuple TypedDict TYPE_CHECKING abstractmethod dataclass overload contextmanager "
+    "format format_map args decode encode hex fromhex".split())
+SPECIAL = set(
+    "__init__ __eq__ __repr__ __str__ __len__ __enter__ __exit__ __call__ __iter__ __add__ __sub__ __mul__ __floordiv__ "
+    "__mod__ __pow__ __radd__ __rsub__ __rmul__ __neg__ __pos__ __invert__ __abs__ __bool__ __contains__ __getitem__".split())
+NODES = (
+    ast.Module, ast.Expr, ast.Constant, ast.ImportFrom, ast.alias, ast.FunctionDef, ast.arguments, ast.arg, ast.ClassDef,
+    ast.Assign, ast.AugAssign, ast.Return, ast.If, ast.While, ast.For, ast.Raise, ast.Break, ast.Continue, ast.Pass,
+    ast.BoolOp, ast.BinOp, ast.UnaryOp, ast.Compare, ast.IfExp, ast.Call, ast.Attribute, ast.Subscript, ast.Slice,
+    ast.Name, ast.List, ast.Tuple, ast.Dict, ast.ListComp, ast.DictComp, ast.comprehension, ast.JoinedStr,
+    ast.FormattedValue, ast.Starred, ast.Load, ast.Store, ast.keyword, ast.boolop, ast.unaryop, ast.cmpop,
+    ast.Add, ast.Sub, ast.Mult, ast.FloorDiv, ast.Mod, ast.Pow,
+)
+
+
+def nodes(*classes):
+    for name, tree in TREES.items():
+        for node in ast.walk(tree):
+            if isinstance(node, classes):
+                yield name, node
+
+
+def defined(name):
+    """What a file defines at module level."""
+    found = {}
+    for node in TREES[name].body:
+        if isinstance(node, (ast.FunctionDef, ast.ClassDef)):
+            found[node.name] = node
+        elif isinstance(node, ast.Assign):
+            found[node.targets[0].id] = node
+    return found
+
+
+def imported(name):
+    return [(node.module, alias.name) for node in TREES[name].body if isinstance(node, ast.ImportFrom)
+            for alias in node.names]
+
+
+def bound_names(tree):
+    """The names of functions, classes, parameters and variables."""
+    for node in ast.walk(tree):
+        if isinstance(node, (ast.FunctionDef, ast.ClassDef)):
+            yield node.name
+        elif isinstance(node, ast.arg):
+            yield node.arg
+        elif isinstance(node, ast.Name) and isinstance(node.ctx, ast.Store):
+            yield node.id
+
+
+def methods():
+    return {node.name for _, one in nodes(ast.ClassDef) for node in one.body if isinstance(node, ast.FunctionDef)}
+
+
+class Files(unittest.TestCase):
+    def test_the_folder_contains_only_plain_files(self):
+        for path in FOLDER.iterdir():
+            if path.name != "__pycache__":
+                self.assertRegex(path.name, r"^([a-z][a-z0-9_]*|__init__)\.py$")
+        self.assertLessEqual(len(FILES), 100)
+        self.assertIn("__init__", FILES)
+
+    def test_sizes_and_characters(self):
+        for name, text in FILES.items():
+            rows = text.split("\n")
+            self.assertLessEqual(len(rows), 400, name)
+            self.assertTrue(text.endswith("\n") and not text.endswith("\n\n"), name)
+            for row in rows:
+                self.assertLessEqual(len(row), 120, (name, row))
+                self.assertRegex(row, r"^[ -~]*$")
+                self.assertEqual(row.rstrip(), row, name)
+        for name, node in nodes(ast.FunctionDef):
+            self.assertLessEqual(node.end_lineno - node.lineno + 1, 40, (name, node.name))
+
+    def test_module_level(self):
+        for name, tree in TREES.items():
+            kinds = [type(node) for node in tree.body]
+            self.assertEqual(kinds[0], ast.Expr, name)
+            self.assertEqual(ast.Expr in kinds[1:], False, name)
+            plain = (ast.ImportFrom, ast.FunctionDef, ast.ClassDef, ast.Assign)
+            self.assertTrue(all(kind in plain for kind in kinds[1:]), name)
+            last = max([k for k, kind in enumerate(kinds) if kind == ast.ImportFrom], default=0)
+            self.assertTrue(all(kind == ast.ImportFrom for kind in kinds[1:last + 1]), name)
+            for node in tree.body:
+                if isinstance(node, ast.Assign):
+                    self.assertEqual([type(one) for one in node.targets], [ast.Name])
+                    self.assertFalse([one for one in ast.walk(node.value) if isinstance(one, (ast.Call, ast.ListComp))])
+
+
+class Imports(unittest.TestCase):
+    def test_from_the_very_file_that_defines_the_name(self):
+        for name in FILES:
+            for module, one in imported(name):
+                if module in LIBRARY:
+                    self.assertIn(one, LIBRARY[module])
+                else:
+                    self.assertTrue(module.startswith("gridwright."), (name, module))
+                    self.assertIn(one, defined(module.partition(".")[2]), (name, module))
+
+    def test_each_import_is_used_and_has_its_own_name(self):
+        for _, node in nodes(ast.ImportFrom):
+            self.assertEqual([node.level, [one.asname for one in node.names]], [0, [None] * len(node.names)])
+        for name in FILES:
+            own = [one for _, one in imported(name)]
+            used = {node.id for node in ast.walk(TREES[name]) if isinstance(node, ast.Name)}
+            self.assertEqual(len(own + list(defined(name))), len(set(own + list(defined(name)))), name)
+            self.assertLessEqual(set(own), used, name)
+
+    def test_no_two_files_need_each_other(self):
+        def needs(name, path):
+            self.assertNotIn(name, path)
+            for module, _ in imported(name):
+                if module not in LIBRARY:
+                    needs(module.partition(".")[2], [*path, name])
+        for name in FILES:
+            needs(name, [])
+
+
+class Words(unittest.TestCase):
+    def test_only_parts_of_the_subset(self):
+        for name, tree in TREES.items():
+            for node in ast.walk(tree):
+                self.assertIsInstance(node, NODES, (name, getattr(node, "lineno", 0)))
+
+    def test_builtins(self):
+        for name, tree in TREES.items():
+            own = set(defined(name)) | {one for _, one in imported(name)} | set(bound_names(tree))
+            for node in ast.walk(tree):
+                if isinstance(node, ast.Name) and node.id not in own:
+                    self.assertIn(node.id, BUILTINS, (name, node.lineno))
+
+    def test_names(self):
+        taken = set(vars(builtins))
+        for name, tree in TREES.items():
+            classes_and_imports = {one for _, one in imported(name)}
+            classes_and_imports |= {k for k, node in defined(name).items() if isinstance(node, ast.ClassDef)}
+            top = set(defined(name))
+            for one in bound_names(tree):
+                if one in SPECIAL or one == "_":
+                    continue
+                self.assertRegex(one, r"^_?[A-Za-z][A-Za-z0-9_]*$")
+                self.assertNotIn(one, taken, name)
+                self.assertNotIn(one, BARRED, name)
+                self.assertFalse(keyword.issoftkeyword(one), (name, one))
+                self.assertFalse(re.match("_wall|_pe_|_dcw_|_enum_|_cm_|_lay_|_law_|_stub_|_sre|_cold|_outside|_record", one))
+                self.assertTrue(one not in classes_and_imports or one in top, (name, one))
+
+    def test_underscore_alone_is_never_read(self):
+        for name, node in nodes(ast.Name):
+            if node.id == "_":
+                self.assertIsInstance(node.ctx, ast.Store, (name, node.lineno))
+
+    def test_attributes_and_methods(self):
+        own = methods()
+        read = {node.attr for _, node in nodes(ast.Attribute) if isinstance(node.ctx, ast.Load)}
+        stored = {node.attr for _, node in nodes(ast.Attribute) if isinstance(node.ctx, ast.Store)}
+        self.assertLessEqual(read, METHODS | own | stored)
+        self.assertFalse((read | stored | own) & BARRED)
+        for name, node in nodes(ast.Attribute):
+            if isinstance(node.ctx, ast.Store):
+                self.assertEqual(node.value.id, "self", (name, node.lineno))
+        self.assertFalse(own & stored)
+
+    def test_no_barred_words_in_strings(self):
+        documented = {id(node.body[0].value) for _, node in nodes(ast.Module, ast.ClassDef, ast.FunctionDef)
+                      if isinstance(node.body[0], ast.Expr)}
+        for name, node in nodes(ast.Constant):
+            if isinstance(node.value, str) and id(node) not in documented:
+                self.assertNotIn("%", node.value, name)
+                self.assertFalse(set(re.findall(r"\w+", node.value)) & BARRED, (name, node.value))
+                self.assertNotIn("__", node.value)
+            self.assertNotIsInstance(node.value, (float, complex, bytes))
+
+
+class Statements(unittest.TestCase):
+    def test_decorators(self):
+        for name, node in nodes(ast.FunctionDef, ast.ClassDef):
+            for one in node.decorator_list:
+                self.assertIn(one.id, ("property", "staticmethod"), name)
+        top = [node for tree in TREES.values() for node in tree.body]
+        for _, node in nodes(ast.FunctionDef):
+            if node.decorator_list:
+                self.assertFalse(node in top)
+
+    def test_double_underscore_methods(self):
+        for name, one in nodes(ast.ClassDef):
+            for node in one.body:
+                if isinstance(node, ast.FunctionDef) and node.name.startswith("__"):
+                    self.assertIn(node.name, SPECIAL)
+                    names = [arg.arg for arg in node.args.args]
+                    alone = ("__neg__", "__abs__", "__bool__", "__len__")
+                    if node.name != "__init__":
+                        self.assertEqual(names, ["self"] if node.name in alone else ["self", "other"], name)
+                elif isinstance(node, ast.Expr):
+                    self.assertIs(node, one.body[0])
+                else:
+                    self.assertIsInstance(node, ast.FunctionDef, name)
+
+    def test_not_implemented_is_only_returned_by_signs(self):
+        returned = 0
+        for name, node in nodes(ast.FunctionDef):
+            for one in ast.walk(node):
+                if isinstance(one, ast.Return) and isinstance(one.value, ast.Name) and one.value.id == "NotImplemented":
+                    self.assertRegex(node.name, "^__r?(add|sub|mul|floordiv|mod|pow)__$", name)
+                    returned += 1
+        self.assertEqual(len([0 for _, node in nodes(ast.Name) if node.id == "NotImplemented"]), returned)
+
+    def test_is_only_with_none_true_and_false(self):
+        for name, node in nodes(ast.Compare):
+            for sign, side in zip(node.ops, node.comparators):
+                if isinstance(sign, (ast.Is, ast.IsNot)):
+                    self.assertIn(side.value, (None, True, False), (name, node.lineno))
+
+    def test_plain_steps_only(self):
+        for name, node in nodes(ast.AugAssign):
+            # With signs of our own, `+=` of anything else could change what is given.
+            self.assertTrue(isinstance(node.op, ast.Add) and isinstance(node.target, ast.Name), (name, node.lineno))
+            self.assertEqual(type(node.value.value), int)
+        for name, node in nodes(ast.BinOp):
+            if isinstance(node.op, ast.Pow):
+                self.assertTrue(0 <= node.right.value <= 64, (name, node.lineno))
+
+    def test_raised_errors_are_made_on_the_spot(self):
+        for name, node in nodes(ast.Raise):
+            self.assertIsInstance(node.exc, ast.Call, (name, node.lineno))
+            self.assertIn(node.exc.func.id, defined("errors"))
+            self.assertIsNone(node.cause)
+
+    def test_calls_have_no_keywords_and_no_stars(self):
+        for name, node in nodes(ast.Call):
+            self.assertFalse(node.keywords, (name, node.lineno))
+            self.assertFalse([one for one in node.args if isinstance(one, ast.Starred)], (name, node.lineno))
+
+    def test_items_are_changed_only_of_lists_that_the_function_made(self):
+        for name, node in nodes(ast.FunctionDef):
+            made = {one.targets[0].id for one in ast.walk(node) if isinstance(one, ast.Assign)
+                    and isinstance(one.targets[0], ast.Name)
+                    and (isinstance(one.value, (ast.List, ast.ListComp, ast.Dict))
+                         or isinstance(one.value, ast.Call) and getattr(one.value.func, "id", "") == "list")}
+            for one in ast.walk(node):
+                if isinstance(one, ast.Subscript) and isinstance(one.ctx, ast.Store):
+                    self.assertIn(one.value.id, made, (name, node.name))
+                if isinstance(one, ast.Attribute) and one.attr == "append":
+                    self.assertIn(one.value.id, made, (name, node.name))
+
+    def test_no_method_is_read_off_a_class(self):
+        classes = {node.name for _, node in nodes(ast.ClassDef)}
+        for name, node in nodes(ast.Attribute):
+            self.assertFalse(isinstance(node.value, ast.Name) and node.value.id in classes, (name, node.lineno))
