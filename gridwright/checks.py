@@ -4,10 +4,13 @@ The checks stand in the order in which their errors are raised. Those that take 
 of single parameters; their errors are told of the first value of which they are so.
 """
 
-from gridwright.errors import InvalidNumber, NotAField, NotAPoly, NotWhole, Nought, Unlike
+from gridwright.errors import (
+    InvalidIndex, InvalidNumber, InvalidShape, NotAField, NotAPoly, NotSquare, NotWhole, Nought, TooMany, Unlike,
+)
 from gridwright.kinds import is_field
+from gridwright.limits import MOST_PRIME, MOST_SIDE
 from gridwright.polys import Poly
-from gridwright.wholes import lies_between
+from gridwright.wholes import is_prime, lies_between
 
 
 def check_poly(value):
@@ -19,6 +22,18 @@ def check_poly(value):
 def check_between(value, low, high):
     """That a value is a whole number from low to high."""
     if not lies_between(value, low, high):
+        raise InvalidNumber(value)
+
+
+def check_index(value, many):
+    """That a value is an index of one of so many things."""
+    if not lies_between(value, 0, many - 1):
+        raise InvalidIndex(value)
+
+
+def check_prime(value):
+    """That a value is a prime below the bound that is told of no other one."""
+    if not lies_between(value, 2, MOST_PRIME - 1) or not is_prime(value):
         raise InvalidNumber(value)
 
 
@@ -44,8 +59,27 @@ def check_alike_kinds(values):
             raise Unlike(kind, value.kind)
 
 
+def check_square(grid):
+    """That a grid has as many rows as places."""
+    if grid.shape[0] != grid.shape[1]:
+        raise NotSquare(grid.shape)
+
+
+def check_same_shape(value, other):
+    """That two grids, or two columns, have one shape."""
+    if value.shape != other.shape:
+        raise InvalidShape(value.shape, other.shape)
+
+
 def check_not_nought(values):
     """That no value is nought."""
     for value in values:
         if not value:
             raise Nought()
+
+
+def check_sides(height, width):
+    """That a grid of this shape is not too great."""
+    for side in (height, width):
+        if side > MOST_SIDE:
+            raise TooMany(side)

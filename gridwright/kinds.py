@@ -9,18 +9,23 @@ from gridwright.scalars import (
 from gridwright.wholes import is_whole_number
 
 
-def _coefficient_kind(kind):
+def coefficient_kind(kind):
     """K of the text `poly K`; None of any other value."""
     if not isinstance(kind, str) or not kind.startswith("poly "):
         return None
     return kind[5:] if is_coefficient_kind(kind[5:]) else None
 
 
+def kind_or_none(value):
+    """The kind of a number; None of what is none."""
+    if isinstance(value, Poly):
+        return f"poly {value.kind}"
+    return scalar_kind(value)
+
+
 def kind_of(number):
     """The kind of a number."""
-    if isinstance(number, Poly):
-        return f"poly {number.kind}"
-    kind = scalar_kind(number)
+    kind = kind_or_none(number)
     if kind is None:
         raise NotANumber(number)
     return kind
@@ -28,7 +33,7 @@ def kind_of(number):
 
 def is_kind(value):
     """Whether a value is a kind."""
-    return is_scalar_kind(value) or _coefficient_kind(value) is not None
+    return is_scalar_kind(value) or coefficient_kind(value) is not None
 
 
 def check_kind(kind):
@@ -57,8 +62,15 @@ def number_of(kind, whole):
     check_kind(kind)
     if not is_whole_number(whole):
         raise InvalidNumber(whole)
-    inner = _coefficient_kind(kind)
+    inner = coefficient_kind(kind)
     return scalar_of(kind, whole) if inner is None else Poly(inner, (whole,))
+
+
+def number_in(kind, value):
+    """The number of the kind that a value is or, if it is whole, leads to; None for others."""
+    if not is_whole_number(value):
+        return value if kind_or_none(value) == kind else None
+    return value if kind == "whole" else number_of(kind, value)
 
 
 def written(number):
@@ -73,32 +85,32 @@ def written(number):
 def read_number(kind, text):
     """The number of the kind with this text."""
     check_kind(kind)
-    number = _number_with_text(kind, text) if isinstance(text, str) else None
+    number = number_or_none(kind, text) if isinstance(text, str) else None
     if number is None:
         raise InvalidText(text)
     return number
 
 
-def _number_with_text(kind, text):
+def number_or_none(kind, text):
     """The number of the kind with this text, a string; None if there is none."""
-    inner = _coefficient_kind(kind)
+    inner = coefficient_kind(kind)
     return read_scalar(kind, text) if inner is None else read_coefficients(inner, text)
 
 
 def is_unit(number):
     """Whether a number has an inverse of its kind."""
-    return _inverse_of(number) is not None
+    return inverse_or_none(number) is not None
 
 
 def unit_inverse(number):
     """What makes 1 with a number."""
-    inverse = _inverse_of(number)
+    inverse = inverse_or_none(number)
     if inverse is None:
         raise NotAUnit(number)
     return inverse
 
 
-def _inverse_of(number):
+def inverse_or_none(number):
     """The inverse of a number of any kind; None if it has none."""
     if not isinstance(number, Poly):
         if scalar_kind(number) is None:

@@ -2,7 +2,10 @@
 
 from itertools import product
 
+from drawn import KINDS, drawn_column, drawn_grid, lot
 from gridwright import dividing, errors, kinds, meeting
+from gridwright.columns import Column
+from gridwright.grids import Grid, nought_grid
 from gridwright.polys import Poly
 from gridwright.ratios import Ratio, square_root
 from gridwright.rests import Rest, joined, order_of
@@ -29,6 +32,8 @@ class Refuses:
 
 VALUES = [number for kind in COEFFICIENT_KINDS + OTHER_KINDS for number in numbers_of(kind)[::4]
           if not isinstance(number, int)]
+TABLES = [make(kind, *sides, lot("conventions")) for kind in KINDS
+          for make, sides in ((drawn_column, (1,)), (drawn_column, (3,)), (drawn_grid, (1, 1)), (drawn_grid, (2, 3)))]
 DEEP = ((((((((((1,),),),),),),),),),)
 
 
@@ -43,8 +48,16 @@ class Comparing(Told):
             alike = kinds.kind_of(one) == kinds.kind_of(other) and kinds.written(one) == kinds.written(other)
             self.same([one == other, one != other], [alike, not alike])
 
+    def test_columns_and_grids_are_equal_to_none_of_another_class(self):
+        for value, other in product(VALUES, TABLES):
+            self.same([value == other, other == value, value != other, other != value], [False, False, True, True])
+        for value, other in product(TABLES, TABLES):
+            alike = type(value) is type(other) and value.text == other.text
+            self.same([value == other, value != other], [alike, not alike])
+        self.same(Column((1, 2)) == Grid(((1,), (2,))), False)
+
     def test_other_values_are_not_asked(self):
-        for value in VALUES:
+        for value in [*VALUES, *TABLES]:
             self.same([value == Claims(), value != Claims()], [False, True])
             self.same([value == Refuses(), value != Refuses()], [False, True])
 
@@ -61,9 +74,33 @@ class Comparing(Told):
             self.raises(errors.InvalidBottoms(0), lambda: meeting.shares(Poly("ratio", ()), (value,)))
             self.raises(errors.InvalidText(value), lambda: Poly.read(value))
             self.raises(errors.NotANumber(value), lambda: kinds.kind_of(value))
+            self.raises(errors.InvalidEntries(1), lambda: Column((1, value)))
+            self.raises(errors.InvalidEntries(None), lambda: Column(value))
+            self.raises(errors.InvalidRows(0), lambda: Grid(((1, value),)))
+            self.raises(errors.InvalidRows(1), lambda: Grid(((1,), value)))
+            self.raises(errors.InvalidRows(None), lambda: Grid(value))
+            self.raises(errors.InvalidIndex(value), lambda: Grid(((1,),))[value])
+            self.raises(errors.InvalidIndex((0, value)), lambda: Grid(((1,),))[0, value])
+            self.raises(errors.InvalidNumber(value), lambda: Grid(((1,),)) ** value)
+            for call in (Column.read, Grid.read):
+                self.raises(errors.InvalidText(value), lambda: call(value))
 
     def test_errors_are_true(self):
         self.same([bool(errors.Nought()), bool(errors.InvalidNumber(0))], [True] * 2)
+
+
+class OtherOperands(Told):
+    def test_signs_take_nothing_else(self):
+        column, grid = Column((Ratio(1), 2)), Grid(((Ratio(1), 2), (3, 4)))
+        for value in [None, True, "1", (1,), [1], {}, object(), Rest(1, 3), Poly("ratio", (1,)), Grid]:
+            for one in (column, grid):
+                for action in (lambda: one + value, lambda: value + one, lambda: one - value, lambda: value - one,
+                               lambda: one * value, lambda: value * one):
+                    self.assertRaises(TypeError, action)
+        for action in (lambda: column + grid, lambda: grid + column, lambda: column * grid, lambda: column * column,
+                       lambda: column + 1, lambda: 1 + column, lambda: grid - 1, lambda: 1 - grid, lambda: grid + Ratio(1),
+                       lambda: list(grid), lambda: 1 in grid, lambda: column ** 2, lambda: grid // grid):
+            self.assertRaises(TypeError, action)
 
 
 class WhatIsAWholeNumber(Told):
@@ -82,6 +119,12 @@ class WhatIsAWholeNumber(Told):
             for call in (kinds.kind_of, kinds.written, kinds.is_unit, kinds.unit_inverse, square_root, order_of):
                 self.raises(errors.NotANumber(value), lambda: call(value))
             self.raises(errors.InvalidCoefficients(0), lambda: Poly("whole", (value,)))
+            self.raises(errors.InvalidEntries(0), lambda: Column((value,)))
+            self.raises(errors.InvalidRows(0), lambda: Grid(((value,),)))
+            self.raises(errors.InvalidNumber(value), lambda: Grid(((1,),)) ** value)
+            self.raises(errors.InvalidIndex((value, 0)), lambda: Grid(((1, 2), (3, 4)))[value, 0])
+            self.raises(errors.InvalidIndex(value), lambda: Column((1, 2)).entry(value))
+            self.raises(errors.InvalidIndex(value), lambda: Grid(((1, 2), (3, 4))).row(value))
 
     def test_a_list_is_not_taken_for_a_tuple(self):
         ratio = Poly("ratio", (1, 1))
@@ -89,6 +132,10 @@ class WhatIsAWholeNumber(Told):
         self.raises(errors.InvalidPoints(None), lambda: meeting.through("ratio", [(1, 2)]))
         self.raises(errors.InvalidPoints(0), lambda: meeting.through("ratio", ([1, 2],)))
         self.raises(errors.InvalidBottoms(None), lambda: meeting.shares(ratio, [ratio]))
+        self.raises(errors.InvalidEntries(None), lambda: Column([1]))
+        self.raises(errors.InvalidRows(None), lambda: Grid([(1,)]))
+        self.raises(errors.InvalidRows(0), lambda: Grid(([1],)))
+        self.raises(errors.InvalidIndex([0, 0]), lambda: Grid(((1,),))[[0, 0]])
 
     def test_several_things_are_told_as_tuples(self):
         one, other = Poly("ratio", (1, 1)), Poly("ratio", (2, 0, 1))
@@ -148,3 +195,6 @@ class Exactness(Told):
         self.same(Poly("ratio", (ratio, 1)).at(-ratio), Ratio(0))
         self.same(kinds.kind_of(ratio), "ratio")
         self.same(Rest(ratio.top, 10 ** 6), Rest(0, 10 ** 6))
+        grid = Grid(((10 ** 59, 1), (1, 10 ** 59))) ** 64
+        self.same([grid - grid, Grid(grid.rows), grid * grid], [nought_grid("whole", 2, 2), grid, grid.power(2)])
+        self.same(Column(grid.rows[0]) * ratio.top, ratio.top * grid.row(0))

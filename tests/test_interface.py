@@ -4,6 +4,8 @@ import inspect
 import unittest
 from importlib import import_module
 
+from gridwright.columns import Column
+from gridwright.grids import Grid
 from gridwright.polys import Poly
 from gridwright.ratios import Ratio
 from gridwright.rests import Rest
@@ -24,6 +26,37 @@ FUNCTIONS = {
         "through(kind, points)", "mixed(poly, left, other, right)", "disagreement(poly, left, other, right)",
         "shares(poly, bottoms)",
     ),
+    "columns": ("dot(column, other)", "unit_column(kind, size, index)"),
+    "grids": (
+        "one_grid(kind, size)", "nought_grid(kind, height, width)", "diagonal_grid(kind, entries)", "from_columns(columns)",
+        "from_rows(columns)", "exchange_grid(order)", "order_sign(order)", "trace(grid)", "is_upper(grid)",
+        "is_lower(grid)", "is_diagonal(grid)", "is_even(grid)",
+    ),
+    "leading": ("led(value, kind)", "to_whole(value)"),
+    "blocks": (
+        "beside(grid, other)", "below(grid, other)", "put_blocks(grids)", "crossed(grid, other)", "pile(grid)",
+        "piece(grid, rows, places)", "unpiled(column, height)",
+    ),
+    "dets": (
+        "det(grid)", "det_by_orders(grid)", "det_along(grid, index)", "det_walk(grid)", "det_tables(grid)",
+        "det_bound(grid)", "det_rests(grid)", "from_rests(pairs, bound)",
+    ),
+    "minors": (
+        "minor(grid, rows, places)", "minors(grid, size)", "leading_minors(grid)", "near_minors(grid, size)",
+        "minor_rank(grid)",
+    ),
+    "sides": (
+        "side_grid(grid)", "cramer(grid, column)", "is_turning(grid)", "inverse(grid)", "rest_block(grid, size)",
+    ),
+    "stairs": (
+        "stair_form(grid)", "step_places(grid)", "free_places(grid)", "rank(grid)", "stair_turning(grid)",
+        "rank_parts(grid)", "both_turnings(grid)", "row_turning(grid, other)", "rank_number(height, width, rank, prime)",
+        "span_number(size, dimension, prime)", "span_at(size, dimension, prime, index)",
+    ),
+    "spans": (
+        "base_of(columns)", "is_free(columns)", "in_span(columns, column)", "relation(columns)", "chosen(columns)",
+        "sum_base(columns, others)", "meet_base(columns, others)", "bar_base(columns)",
+    ),
 }
 SIGNS = "__add__ __radd__ __sub__ __rsub__ __mul__ __rmul__ __neg__ __pow__ __eq__ __bool__"
 CLASSES = {
@@ -32,8 +65,13 @@ CLASSES = {
     Rest: (Rest(1, 2), "rests", "(number, modulus)", "number modulus is_unit text", SIGNS, ("power(exponent)", "inverse()")),
     Poly: (Poly("whole", ()), "polys", "(kind, coefficients)", "kind coefficients degree lead text", SIGNS + " __floordiv__ __mod__",
            ("power(exponent)", "at(number)", "slope()", "monic()", "put(other)")),
+    Column: (Column((1, 2)), "columns", "(entries)", "entries kind text",
+             "__add__ __sub__ __mul__ __rmul__ __neg__ __eq__ __bool__ __len__", ("entry(index)",)),
+    Grid: (Grid(((1, 2),)), "grids", "(rows)", "rows kind shape columns is_square turned text",
+           "__add__ __sub__ __mul__ __rmul__ __neg__ __pow__ __eq__ __bool__ __len__ __getitem__", ("power(exponent)", "row(index)")),
 }
-ORDER = ("limits", "errors", "ratios", "rests", "polys", "kinds", "dividing", "meeting")
+ORDER = ("limits", "errors", "ratios", "rests", "polys", "kinds", "dividing", "meeting", "columns", "grids", "leading",
+         "blocks", "dets", "minors", "sides", "stairs", "spans")
 
 
 class Interface(unittest.TestCase):
@@ -63,7 +101,7 @@ class Interface(unittest.TestCase):
                 self.assertEqual(list(inspect.signature(own[name]).parameters), names)
 
     def test_read_is_a_static_method(self):
-        for one in (Ratio, Poly):
+        for one in (Ratio, Poly, Column, Grid):
             self.assertIsInstance(vars(one)["read"], staticmethod)
             self.assertEqual(str(inspect.signature(one.read)), "(text)")
 

@@ -16,7 +16,7 @@ TREES = {name: ast.parse(text) for name, text in FILES.items()}
 
 BUILTINS = set(
     "len range enumerate zip min max sum abs sorted reversed int str bool list tuple dict isinstance ord repr any all "
-    "divmod ValueError LookupError ArithmeticError NotImplemented property staticmethod super".split())
+    "divmod ValueError LookupError ArithmeticError TypeError NotImplemented property staticmethod super".split())
 LIBRARY = {"math": {"gcd", "lcm", "isqrt", "comb", "perm", "factorial"},
            "itertools": {"product", "combinations", "permutations"},
            "heapq": {"heappush", "heappop", "heapify", "heapreplace", "heappushpop"}}
@@ -38,7 +38,7 @@ NODES = (
     ast.Assign, ast.AugAssign, ast.Return, ast.If, ast.While, ast.For, ast.Raise, ast.Break, ast.Continue, ast.Pass,
     ast.BoolOp, ast.BinOp, ast.UnaryOp, ast.Compare, ast.IfExp, ast.Call, ast.Attribute, ast.Subscript, ast.Slice,
     ast.Name, ast.List, ast.Tuple, ast.Dict, ast.ListComp, ast.DictComp, ast.comprehension, ast.JoinedStr,
-    ast.FormattedValue, ast.Starred, ast.Load, ast.Store, ast.keyword, ast.boolop, ast.unaryop, ast.cmpop,
+    ast.FormattedValue, ast.Load, ast.Store, ast.keyword, ast.boolop, ast.unaryop, ast.cmpop,
     ast.Add, ast.Sub, ast.Mult, ast.FloorDiv, ast.Mod, ast.Pow,
 )
 
@@ -75,6 +75,20 @@ def bound_names(tree):
             yield node.arg
         elif isinstance(node, ast.Name) and isinstance(node.ctx, ast.Store):
             yield node.id
+
+
+def in_iteration():
+    """The statements in `__iter__`: a class with items says there that it is not iterated over."""
+    return {id(one) for _, node in nodes(ast.FunctionDef) if node.name == "__iter__" for one in node.body}
+
+
+def comprehensions(tree):
+    return [node for node in ast.walk(tree) if isinstance(node, (ast.ListComp, ast.DictComp))]
+
+
+def own_targets(node):
+    """The names that a comprehension itself assigns."""
+    return {one.id for part in node.generators for one in ast.walk(part.target) if isinstance(one, ast.Name)}
 
 
 def methods():
@@ -136,13 +150,12 @@ class Imports(unittest.TestCase):
             self.assertLessEqual(set(own), used, name)
 
     def test_no_two_files_need_each_other(self):
-        def needs(name, path):
-            self.assertNotIn(name, path)
-            for module, _ in imported(name):
-                if module not in LIBRARY:
-                    needs(module.partition(".")[2], [*path, name])
-        for name in FILES:
-            needs(name, [])
+        needed = {name: {module.partition(".")[2] for module, _ in imported(name) if module not in LIBRARY} for name in FILES}
+        for _ in FILES:
+            # Over others, too: in as many steps as there are files nothing is left out.
+            needed = {name: own.union(*[needed[one] for one in own]) for name, own in needed.items()}
+        for name, own in needed.items():
+            self.assertNotIn(name, own)
 
 
 class Words(unittest.TestCase):
@@ -201,6 +214,21 @@ class Words(unittest.TestCase):
             self.assertNotIsInstance(node.value, (float, complex, bytes))
 
 
+    def test_words_that_a_package_with_items_has_nowhere(self):
+        for name, text in FILES.items():
+            self.assertNotRegex(text, r"\(type\)|Meta|metaclass=|_wall|_WallAttr", name)
+
+    def test_the_library_is_only_called(self):
+        for name, tree in TREES.items():
+            taken = {one for module, one in imported(name) if module in LIBRARY}
+            called = {id(node.func) for node in ast.walk(tree) if isinstance(node, ast.Call)}
+            for node in ast.walk(tree):
+                if isinstance(node, ast.Name) and node.id in taken:
+                    self.assertIn(id(node), called, (name, node.lineno))
+            # Grids have a length and an `__iter__`, beside which products, combinations and orders do not stand.
+            self.assertNotIn("itertools", [module for module, _ in imported(name)])
+
+
 class Statements(unittest.TestCase):
     def test_decorators(self):
         for name, node in nodes(ast.FunctionDef, ast.ClassDef):
@@ -217,9 +245,10 @@ class Statements(unittest.TestCase):
                 if isinstance(node, ast.FunctionDef) and node.name.startswith("__"):
                     self.assertIn(node.name, SPECIAL)
                     names = [arg.arg for arg in node.args.args]
-                    alone = ("__neg__", "__abs__", "__bool__", "__len__")
+                    alone = ("__neg__", "__abs__", "__bool__", "__len__", "__iter__")
+                    second = "at" if node.name == "__getitem__" else "other"
                     if node.name != "__init__":
-                        self.assertEqual(names, ["self"] if node.name in alone else ["self", "other"], name)
+                        self.assertEqual(names, ["self"] if node.name in alone else ["self", second], name)
                 elif isinstance(node, ast.Expr):
                     self.assertIs(node, one.body[0])
                 else:
@@ -249,10 +278,48 @@ class Statements(unittest.TestCase):
             if isinstance(node.op, ast.Pow):
                 self.assertTrue(0 <= node.right.value <= 64, (name, node.lineno))
 
+    def test_a_class_with_items_is_not_iterated_over(self):
+        for name, one in nodes(ast.ClassDef):
+            own = {node.name: node for node in one.body if isinstance(node, ast.FunctionDef)}
+            self.assertEqual("__getitem__" in own, "__iter__" in own, (name, one.name))
+            if "__iter__" in own:
+                self.assertEqual([type(node) for node in own["__iter__"].body], [ast.Raise])
+                self.assertEqual(own["__iter__"].body[0].exc.func.id, "TypeError")
+
+    def test_truth_and_length_are_told_in_few_forms(self):
+        for name, node in nodes(ast.FunctionDef):
+            if node.name in ("__bool__", "__len__"):
+                self.assertIsInstance(node.body[-1], ast.Return, name)
+                forms = ("len",) if node.name == "__len__" else ("bool", "any", "all")
+                for one in ast.walk(node):
+                    if isinstance(one, ast.Return):
+                        self.assertIn(one.value.func.id, forms, name)
+
+    def test_equality_asks_for_the_class_first(self):
+        for name, node in nodes(ast.FunctionDef):
+            if node.name == "__eq__":
+                self.assertEqual([type(one) for one in node.body], [ast.Return], name)
+                first = node.body[0].value.values[0]
+                self.assertEqual([first.func.id, first.args[0].id], ["isinstance", "other"], name)
+
+    def test_inner_comprehensions_have_names_of_their_own(self):
+        for name, function in nodes(ast.FunctionDef):
+            for node in comprehensions(function):
+                for inner in comprehensions(node):
+                    if inner is not node:
+                        self.assertFalse((own_targets(node) & own_targets(inner)) - {"_"}, (name, inner.lineno))
+                        taken = {arg.arg for arg in function.args.args}
+                        taken |= {one.id for part in ast.walk(function) if isinstance(part, (ast.Assign, ast.For))
+                                  for target in getattr(part, "targets", [getattr(part, "target", None)])
+                                  for one in ast.walk(target) if isinstance(one, ast.Name)}
+                        self.assertFalse((taken & own_targets(inner)) - {"_"}, (name, inner.lineno))
+
     def test_raised_errors_are_made_on_the_spot(self):
+        spoken_of = in_iteration()
         for name, node in nodes(ast.Raise):
             self.assertIsInstance(node.exc, ast.Call, (name, node.lineno))
-            self.assertIn(node.exc.func.id, defined("errors"))
+            if id(node) not in spoken_of:
+                self.assertIn(node.exc.func.id, defined("errors"))
             self.assertIsNone(node.cause)
 
     def test_calls_have_no_keywords_and_no_stars(self):
@@ -271,6 +338,16 @@ class Statements(unittest.TestCase):
                     self.assertIn(one.value.id, made, (name, node.name))
                 if isinstance(one, ast.Attribute) and one.attr == "append":
                     self.assertIn(one.value.id, made, (name, node.name))
+
+    def test_nothing_that_is_passed_is_called(self):
+        for name, tree in TREES.items():
+            known = BUILTINS | set(defined(name)) | {one for _, one in imported(name)}
+            for node in ast.walk(tree):
+                if isinstance(node, ast.Call) and isinstance(node.func, ast.Name):
+                    self.assertIn(node.func.id, known, (name, node.lineno))
+                elif isinstance(node, ast.Call):
+                    self.assertIsInstance(node.func, ast.Attribute, (name, node.lineno))
+                    self.assertIn(node.func.attr, METHODS | methods(), (name, node.lineno))
 
     def test_no_method_is_read_off_a_class(self):
         classes = {node.name for _, node in nodes(ast.ClassDef)}

@@ -1,0 +1,145 @@
+"""Numbers, columns and grids that are drawn, the same in each run, and plain ways to what they tell."""
+
+from itertools import combinations, permutations, product
+from random import Random
+
+from gridwright.columns import Column
+from gridwright.grids import Grid
+from gridwright.kinds import nought, number_of, one
+from gridwright.polys import Poly
+from gridwright.ratios import Ratio
+from gridwright.rests import Rest
+
+FIELDS = ("ratio", "rest 2", "rest 3", "rest 97", "rest 999983")
+NO_FIELDS = ("whole", "rest 4", "rest 6", "rest 1000000", "poly whole", "poly ratio", "poly rest 3")
+KINDS = FIELDS + NO_FIELDS
+
+
+def lot(name):
+    """A fresh source of drawn things."""
+    return Random(name)
+
+
+def drawn_number(kind, source):
+    if kind == "whole":
+        return source.choice((0, 1, -1, 2, -3, 5, 10 ** 20))
+    if kind == "ratio":
+        return Ratio(source.randint(-4, 4), source.choice((1, 1, 2, 3)))
+    if kind.startswith("rest "):
+        return Rest(source.randint(0, 10 ** 6), int(kind[5:]))
+    inner = kind[5:]
+    return Poly(inner, tuple(drawn_number(inner, source) for _ in range(source.choice((0, 1, 1, 2, 3)))))
+
+
+def drawn_column(kind, size, source):
+    return Column(tuple(drawn_number(kind, source) for _ in range(size)))
+
+
+def drawn_grid(kind, height, width, source):
+    return Grid(tuple(tuple(drawn_number(kind, source) for _ in range(width)) for _ in range(height)))
+
+
+def drawn_turning(kind, size, source):
+    """A turning grid: 1 at the entries (i, i), anything above them, times the same with anything below."""
+    def with_ones(upper):
+        return Grid(tuple(tuple(
+            one(kind) if i == j else drawn_number(kind, source) if (i < j) == upper else nought(kind)
+            for j in range(size)) for i in range(size)))
+    return with_ones(True) * with_ones(False)
+
+
+def drawn_of_rank(kind, height, width, rank, source):
+    """A grid over a field of just this rank."""
+    rows = [[one(kind) if i == j < rank else nought(kind) for j in range(width)] for i in range(height)]
+    middle = Grid(tuple(tuple(row) for row in rows))
+    return drawn_turning(kind, height, source) * middle * drawn_turning(kind, width, source)
+
+
+def all_grids(prime, height, width):
+    """All grids of a shape by a prime."""
+    for numbers in product(range(prime), repeat=height * width):
+        rows = [numbers[k * width:(k + 1) * width] for k in range(height)]
+        yield Grid(tuple(tuple(Rest(number, prime) for number in row) for row in rows))
+
+
+def all_columns(prime, size):
+    """All columns of a size by a prime."""
+    for numbers in product(range(prime), repeat=size):
+        yield Column(tuple(Rest(number, prime) for number in numbers))
+
+
+def sign_of(order):
+    return 1 if sum(a > b for a, b in combinations(order, 2)) % 2 == 0 else -1
+
+
+def plain_det(kind, rows):
+    """The determinant by its definition."""
+    total = nought(kind)
+    for order in permutations(range(len(rows))):
+        term = one(kind)
+        for k, place in enumerate(order):
+            term = term * rows[k][place]
+        total = total + term * sign_of(order)
+    return total
+
+
+def plain_product(grid, other):
+    rows = []
+    for i in range(grid.shape[0]):
+        row = []
+        for j in range(other.shape[1]):
+            total = nought(grid.kind)
+            for k in range(grid.shape[1]):
+                total = total + grid.rows[i][k] * other.rows[k][j]
+            row.append(total)
+        rows.append(tuple(row))
+    return Grid(tuple(rows))
+
+
+def plain_minor(grid, rows, places):
+    return plain_det(grid.kind, [[grid.rows[i][j] for j in places] for i in rows])
+
+
+def plain_rank(grid):
+    """The greatest size of a minor that is not nought."""
+    for size in range(min(grid.shape), 0, -1):
+        for rows in combinations(range(grid.shape[0]), size):
+            for places in combinations(range(grid.shape[1]), size):
+                if plain_minor(grid, rows, places):
+                    return size
+    return 0
+
+
+def stands_in_stairs(grid):
+    """Whether a grid stands in stairs, by the words of the definition."""
+    pivots = []
+    for row in grid.rows:
+        filled = [place for place, number in enumerate(row) if number]
+        if not filled:
+            pivots.append(None)
+            continue
+        place = filled[0]
+        if row[place] != one(grid.kind) or None in pivots or any(ahead >= place for ahead in pivots):
+            return False
+        if sum(bool(other[place]) for other in grid.rows) != 1:
+            return False
+        pivots.append(place)
+    return True
+
+
+def plain_sum(columns, numbers):
+    """The sum of numbers times columns."""
+    total = columns[0] * 0
+    for column, number in zip(columns, numbers):
+        total = total + column * number
+    return total
+
+
+def span_of(columns, prime):
+    """The texts of all columns of a span by a prime."""
+    every = product(range(prime), repeat=len(columns))
+    return {plain_sum(columns, numbers).text for numbers in every}
+
+
+def plain_one(kind, size):
+    return Grid(tuple(tuple(number_of(kind, int(i == j)) for j in range(size)) for i in range(size)))
