@@ -1,13 +1,13 @@
 """Numbers, polys, columns and grids led from one kind to another one, and to whole numbers."""
 
-from math import gcd, lcm
+from math import gcd
 
 from gridwright.columns import Column
 from gridwright.errors import NotANumber, NotAUnit, NotLed, NotWhole
 from gridwright.grids import Grid
 from gridwright.kinds import check_kind, coefficient_kind, kind_or_none, number_of
 from gridwright.polys import Poly
-from gridwright.ratios import Ratio
+from gridwright.ratios import Ratio, over_one_bottom
 from gridwright.rests import Rest
 from gridwright.scalars import modulus_of
 from gridwright.wholes import inverse_by_whole, is_whole_number
@@ -103,7 +103,5 @@ def to_whole(value):
         return 1, _put_back(value, [rest.number for rest in numbers])
     if value.kind != "ratio":
         raise NotWhole(value.kind)
-    times = 1
-    for ratio in numbers:
-        times = lcm(times, ratio.bottom)
-    return times, _put_back(value, [ratio.top * (times // ratio.bottom) for ratio in numbers])
+    times, wholes = over_one_bottom(numbers)
+    return times, _put_back(value, wholes)

@@ -4,6 +4,7 @@ from gridwright.errors import (
     InvalidCoefficients, InvalidKind, InvalidNumber, InvalidText, NotAField, NotAPoly, NotAUnit, Nought, Unlike,
 )
 from gridwright.limits import MOST_POWER
+from gridwright.ratios import Ratio, over_one_bottom
 from gridwright.scalars import (
     is_coefficient_kind, is_scalar_field, read_scalar, scalar_in, scalar_inverse, scalar_of, scalar_text,
 )
@@ -85,7 +86,7 @@ class Poly:
         poly = _poly_beside(self, other)
         if poly is None:
             return NotImplemented
-        return Poly(self.kind, _products(self.coefficients, poly.coefficients))
+        return Poly(self.kind, _products_of_kind(self.kind, self.coefficients, poly.coefficients))
 
     def __rmul__(self, other):
         poly = _poly_beside(self, other)
@@ -175,6 +176,15 @@ def _products(numbers, others):
         for step, other in enumerate(others):
             total[index + step] = total[index + step] + number * other
     return tuple(total)
+
+
+def _products_of_kind(kind, numbers, others):
+    """The same, the kind being known: of ratios only the sums are brought to lowest terms, as each time costs much."""
+    if kind != "ratio":
+        return _products(numbers, others)
+    bottom, wholes = over_one_bottom(numbers)
+    other_bottom, other_wholes = over_one_bottom(others)
+    return tuple([Ratio(top, bottom * other_bottom) for top in _products(wholes, other_wholes)])
 
 
 def quotient_and_rest(poly, other):

@@ -1,6 +1,6 @@
 """Ratios of whole numbers, in lowest terms."""
 
-from math import gcd, isqrt
+from math import gcd, isqrt, lcm
 
 from gridwright.errors import InvalidNumber, InvalidText, NotANumber, NotAUnit
 from gridwright.limits import MOST_POWER
@@ -131,6 +131,14 @@ def read_ratio(text):
     if top is None or bottom is None or bottom < 1 or gcd(top, bottom) > 1:
         return None
     return Ratio(top, bottom)
+
+
+def over_one_bottom(ratios):
+    """The pair of the least common bottom of ratios and of the list of the tops that they have over it."""
+    bottom = 1
+    for ratio in ratios:
+        bottom = lcm(bottom, ratio.bottom)
+    return bottom, [ratio.top * (bottom // ratio.bottom) for ratio in ratios]
 
 
 def square_root(number):
