@@ -11,7 +11,7 @@ from gridwright.kinds import check_kind, is_kind, nought, number_in
 from gridwright.limits import MOST_FAR, MOST_POWER, MOST_SIDE
 from gridwright.scalars import modulus_of
 from gridwright.tables import (
-    is_filled, joined_kind, one_rows, product_rows, row_or_none, row_sum, row_text, row_times, sums_by_rows,
+    are_noughts, joined_kind, one_rows, product_rows, row_or_none, row_sum, row_text, row_times, sums_by_rows,
     turned_rows,
 )
 from gridwright.wholes import is_whole_number, lies_between, raised
@@ -65,7 +65,7 @@ class Grid:
         return isinstance(other, Grid) and self.kind == other.kind and self.rows == other.rows
 
     def __bool__(self):
-        return any([is_filled(row) for row in self.rows])
+        return any([not are_noughts(row) for row in self.rows])
 
     def __len__(self):
         return len(self.rows)
@@ -252,13 +252,13 @@ def trace(grid):
 def is_upper(grid):
     """Whether all entries (i, j) with i above j are nought."""
     check_grid(grid)
-    return not any([is_filled(row[:k]) for k, row in enumerate(grid.rows)])
+    return all([are_noughts(row[:k]) for k, row in enumerate(grid.rows)])
 
 
 def is_lower(grid):
     """Whether all entries (i, j) with i below j are nought."""
     check_grid(grid)
-    return not any([is_filled(row[k + 1:]) for k, row in enumerate(grid.rows)])
+    return all([are_noughts(row[k + 1:]) for k, row in enumerate(grid.rows)])
 
 
 def is_diagonal(grid):

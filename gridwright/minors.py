@@ -11,7 +11,7 @@ from gridwright.leading import led
 from gridwright.limits import MOST_LISTED
 from gridwright.quotients import rank_by_tables
 from gridwright.scalars import modulus_of
-from gridwright.tables import ascending_tuples, is_filled
+from gridwright.tables import are_noughts, ascending_tuples
 from gridwright.wholes import lies_between
 
 
@@ -94,6 +94,6 @@ def _rank_by_minors(grid):
     """The same where products of numbers other than nought may be nought, so that no quotients tell it."""
     height, width = grid.shape
     for size in reversed(range(1, min(height, width) + 1)):
-        if any([is_filled(_minors_of_rows(grid, chosen)) for chosen in ascending_tuples(height, size)]):
+        if any([not are_noughts(_minors_of_rows(grid, chosen)) for chosen in ascending_tuples(height, size)]):
             return size
     return 0

@@ -44,37 +44,37 @@ class Ratio:
         return bool(self.top != 0)
 
     def __add__(self, other):
-        ratio = _as_ratio(other)
+        ratio = as_ratio(other)
         if ratio is None:
             return NotImplemented
         return Ratio(self.top * ratio.bottom + ratio.top * self.bottom, self.bottom * ratio.bottom)
 
     def __radd__(self, other):
-        ratio = _as_ratio(other)
+        ratio = as_ratio(other)
         if ratio is None:
             return NotImplemented
         return ratio + self
 
     def __sub__(self, other):
-        ratio = _as_ratio(other)
+        ratio = as_ratio(other)
         if ratio is None:
             return NotImplemented
         return Ratio(self.top * ratio.bottom - ratio.top * self.bottom, self.bottom * ratio.bottom)
 
     def __rsub__(self, other):
-        ratio = _as_ratio(other)
+        ratio = as_ratio(other)
         if ratio is None:
             return NotImplemented
         return ratio - self
 
     def __mul__(self, other):
-        ratio = _as_ratio(other)
+        ratio = as_ratio(other)
         if ratio is None:
             return NotImplemented
         return Ratio(self.top * ratio.top, self.bottom * ratio.bottom)
 
     def __rmul__(self, other):
-        ratio = _as_ratio(other)
+        ratio = as_ratio(other)
         if ratio is None:
             return NotImplemented
         return ratio * self
@@ -107,13 +107,13 @@ class Ratio:
 
     def is_below(self, other):
         """Whether the ratio is less than another one or than a whole number."""
-        ratio = _as_ratio(other)
+        ratio = as_ratio(other)
         if ratio is None:
             raise InvalidNumber(other)
         return self.top * ratio.bottom < ratio.top * self.bottom
 
 
-def _as_ratio(value):
+def as_ratio(value):
     """The ratio that a value is or, if it is whole, leads to; None for others."""
     if isinstance(value, Ratio):
         return value

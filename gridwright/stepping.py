@@ -50,11 +50,11 @@ def nought_rows(kind, rows, width):
         numbers = {free: one(kind)}
         for at, place in enumerate(places):
             numbers[place] = -stair[at][free]
-        found.append(_filled_up(kind, numbers, width))
+        found.append(filled_up(kind, numbers, width))
     return tuple(found)
 
 
-def _filled_up(kind, numbers, width):
+def filled_up(kind, numbers, width):
     """The row with these numbers at their places, and noughts elsewhere."""
     return tuple([numbers.get(place, nought(kind)) for place in range(width)])
 
@@ -65,4 +65,4 @@ def solved(kind, rows, sums):
     stair, places = led_to_stairs(rows_beside(rows, [(number,) for number in sums]), width + 1)
     if width in places:
         return None
-    return _filled_up(kind, {place: stair[at][width] for at, place in enumerate(places)}, width)
+    return filled_up(kind, {place: stair[at][width] for at, place in enumerate(places)}, width)

@@ -78,9 +78,9 @@ def rows_beside(rows, others):
     return tuple([rows[k] + others[k] for k in range(len(rows))])
 
 
-def is_filled(row):
-    """Whether some number of a row is not nought."""
-    return any([bool(number) for number in row])
+def are_noughts(row):
+    """Whether all numbers of a row are nought."""
+    return not any([bool(number) for number in row])
 
 
 def ascending_tuples(many, size):

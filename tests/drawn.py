@@ -1,6 +1,7 @@
 """Numbers, columns and grids that are drawn, the same in each run, and plain ways to what they tell."""
 
 from itertools import combinations, permutations, product
+from math import gcd
 from random import Random
 
 from gridwright.columns import Column
@@ -143,3 +144,62 @@ def span_of(columns, prime):
 
 def plain_one(kind, size):
     return Grid(tuple(tuple(number_of(kind, int(i == j)) for j in range(size)) for i in range(size)))
+
+
+def drawn_whole(height, width, source, most=6):
+    """A whole grid with numbers up to a size."""
+    return Grid(tuple(tuple(source.randint(-most, most) for _ in range(width)) for _ in range(height)))
+
+
+def drawn_whole_of_rank(height, width, rank, source, most=4):
+    """A whole grid of at most this rank, as a product; of noughts for the rank 0."""
+    if rank == 0:
+        return Grid(((0,) * width,) * height)
+    return drawn_whole(height, rank, source, most) * drawn_whole(rank, width, source, most)
+
+
+def drawn_whole_turning(size, source, steps=12):
+    """A whole turning grid of some drawn steps of rows."""
+    rows = [[int(i == j) for j in range(size)] for i in range(size)]
+    for _ in range(steps):
+        i, j = source.randrange(size), source.randrange(size)
+        if i == j:
+            rows[i] = [-entry for entry in rows[i]]
+        else:
+            times = source.randint(-2, 2)
+            rows[i] = [a + times * b for a, b in zip(rows[i], rows[j])]
+    return Grid(tuple(tuple(row) for row in rows))
+
+
+def plain_common_minor(grid, size):
+    """The greatest number that divides all minors of a size; 1 for the size 0."""
+    found = 1 if size == 0 else 0
+    if size > 0:
+        for rows in combinations(range(grid.shape[0]), size):
+            for places in combinations(range(grid.shape[1]), size):
+                found = gcd(found, plain_minor(grid, rows, places))
+    return found
+
+
+def is_member(grid, entries):
+    """Whether whole numbers times the rows add up to a column: a row more changes neither the rank nor common minors."""
+    more = Grid(grid.rows + (tuple(entries),))
+    rank = plain_rank(grid)
+    return plain_rank(more) == rank and plain_common_minor(more, rank) == plain_common_minor(grid, rank)
+
+
+def stands_in_whole_stairs(grid):
+    """Whether a whole grid stands in whole stairs, by the words of the definition."""
+    last, ended = -1, False
+    for k, row in enumerate(grid.rows):
+        filled = [place for place, number in enumerate(row) if number]
+        if not filled:
+            ended = True
+            continue
+        place = filled[0]
+        if ended or place <= last or row[place] < 1:
+            return False
+        if any(not 0 <= above[place] < row[place] for above in grid.rows[:k]):
+            return False
+        last = place
+    return True
