@@ -78,7 +78,7 @@ def row_turning(grid, other):
     return Grid(back) * stair_turning(grid)
 
 
-def _falling_product(prime, exponent, many):
+def falling_product(prime, exponent, many):
     """The product of P ** exponent - P ** i over i from 0 to one less than so many."""
     total = 1
     for k in range(many):
@@ -92,8 +92,8 @@ def rank_number(height, width, rank, prime):
     check_between(width, 1, MOST_SIDE)
     check_between(rank, 0, MOST_SIDE)
     check_prime(prime)
-    pairs = _falling_product(prime, height, rank) * _falling_product(prime, width, rank)
-    return pairs // _falling_product(prime, rank, rank)
+    pairs = falling_product(prime, height, rank) * falling_product(prime, width, rank)
+    return pairs // falling_product(prime, rank, rank)
 
 
 def span_number(size, dimension, prime):
@@ -101,7 +101,7 @@ def span_number(size, dimension, prime):
     check_between(size, 1, MOST_SIDE)
     check_between(dimension, 0, MOST_SIDE)
     check_prime(prime)
-    return _falling_product(prime, size, dimension) // _falling_product(prime, dimension, dimension)
+    return falling_product(prime, size, dimension) // falling_product(prime, dimension, dimension)
 
 
 def span_at(size, dimension, prime, index):

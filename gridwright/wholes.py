@@ -43,11 +43,13 @@ def primes_of(number):
 
 def is_prime(number):
     """Whether a whole number from 0 on is a prime."""
-    factor = 2
+    if number % 2 == 0:
+        return number == 2
+    factor = 3
     while factor * factor <= number:
         if number % factor == 0:
             return False
-        factor += 1
+        factor += 2
     return number > 1
 
 

@@ -203,3 +203,43 @@ def stands_in_whole_stairs(grid):
             return False
         last = place
     return True
+
+
+def chains_of_polys(kind, size):
+    """Some tuples of monic polys, each dividing the next one, with degrees that add up to a size."""
+    x = Poly(kind, (0, 1))
+    square = x * x + x + 1
+    for polys in (
+        (x,), (x - 1,), (x, x), (x * x,), (square,), (x, x * (x - 1)), (x ** 3,), (x - 1, x - 1, x - 1), (x * square,),
+        (x, x ** 3), (square, square), (square ** 2,), (x ** 2, x ** 2), (x - 1, (x - 1) ** 2 * x), (x, x, x, x),
+        (x, x ** 2 * (x - 1) ** 2), (x, x, x ** 3), (square, square * x), (x, x, x, x, x), (x ** 5 - 1,),
+        (x,) * 8, (x - 1, (x - 1) * x, (x - 1) ** 2 * x ** 3), (square ** 2, square ** 2), (x ** 8 - x,), (square, square, square ** 2),
+    ):
+        if sum(poly.degree for poly in polys) == size:
+            yield polys
+
+
+def plain_follower(poly):
+    """The follower of a monic poly by the words of the document."""
+    degree = poly.degree
+    return Grid(tuple(tuple(
+        -poly.coefficients[i] if j == degree - 1 else one(poly.kind) if i == j + 1 else nought(poly.kind)
+        for j in range(degree)) for i in range(degree)))
+
+
+def plain_blocks(polys):
+    """The grid of the followers put from the corner on."""
+    size = sum(poly.degree for poly in polys)
+    rows = [[nought(polys[0].kind)] * size for _ in range(size)]
+    ahead = 0
+    for poly in polys:
+        for i, row in enumerate(plain_follower(poly).rows):
+            rows[ahead + i][ahead:ahead + poly.degree] = row
+        ahead += poly.degree
+    return Grid(tuple(tuple(row) for row in rows))
+
+
+def turned_around(grid, source):
+    """A grid alike to one: turned by a drawn turning grid and its inverse."""
+    turning = drawn_turning(grid.kind, len(grid), source)
+    return turning * grid * turning ** -1

@@ -6,6 +6,7 @@ from drawn import KINDS, drawn_column, drawn_grid, lot
 from gridwright import dividing, errors, kinds, meeting
 from gridwright.columns import Column
 from gridwright.grids import Grid, nought_grid
+from gridwright.groups import Group
 from gridwright.polys import Poly
 from gridwright.ratios import Ratio, square_root
 from gridwright.rests import Rest, joined, order_of
@@ -56,8 +57,14 @@ class Comparing(Told):
             self.same([value == other, value != other], [alike, not alike])
         self.same(Column((1, 2)) == Grid(((1,), (2,))), False)
 
+    def test_groups_are_equal_to_none_of_another_class(self):
+        group = Group(Grid(((2, 4), (6, 8))))
+        for other in [*SPOILT, *VALUES, *TABLES, DEEP, 8, "2 4", Group]:
+            self.same([group == other, other == group, group != other, other != group], [False, False, True, True])
+        self.same([bool(group), bool(Group(Grid(((1,),))))], [True, True])
+
     def test_other_values_are_not_asked(self):
-        for value in [*VALUES, *TABLES]:
+        for value in [*VALUES, *TABLES, Group(Grid(((2, 4), (6, 8))))]:
             self.same([value == Claims(), value != Claims()], [False, True])
             self.same([value == Refuses(), value != Refuses()], [False, True])
 

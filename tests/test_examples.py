@@ -53,15 +53,71 @@ DETERMINANTS = r'''
 ['grid rest 6: 1 2; 3 5', False, -3, ((-6, 0), (0, 0))]
 '''
 
-# Of the lines that stand in that section these are the parts that ask stairs and spans.
 STAIRS = r'''
 >>> from gridwright.stairs import free_places, rank, rank_number, rank_parts, span_at, span_number, stair_form, stair_turning
 >>> from gridwright.spans import base_of, in_span, meet_base, relation
+>>> from gridwright.solving import bar, nought_base, solution, solution_at, solutions_number
+>>> from gridwright.halves import lower_upper, ordered_triangles
 >>> a = led(Grid(((1, 2, 3), (2, 4, 7))), "ratio")
->>> [stair_form(a).text, free_places(a), rank(a), stair_turning(a).text]
-['grid ratio: 1/1 2/1 0/1; 0/1 0/1 1/1', (1,), 2, 'grid ratio: 7/1 -3/1; -2/1 1/1']
->>> [rank_number(2, 2, 1, 2), span_number(3, 1, 2), span_at(2, 1, 2, 1)[0].text]
-[9, 7, 'column rest 2: 1 1']
+>>> [stair_form(a).text, free_places(a), rank(a), stair_turning(a).text, nought_base(a)[0].text, solution(a, led(Column((1, 3)), "ratio")).text]
+['grid ratio: 1/1 2/1 0/1; 0/1 0/1 1/1', (1,), 2, 'grid ratio: 7/1 -3/1; -2/1 1/1', 'column ratio: 1/1 -1/2 0/1', 'column ratio: -2/1 0/1 1/1']
+>>> b = led(Grid(((1, 1), (1, 1))), "rest 2")
+>>> [bar(b, led(Column((1, 0)), "rest 2")).text, solutions_number(b, led(Column((1, 1)), "rest 2")), solution_at(b, led(Column((1, 1)), "rest 2"), 1).text, rank_number(2, 2, 1, 2), span_number(3, 1, 2), span_at(2, 1, 2, 1)[0].text]
+['column rest 2: 1 1', 2, 'column rest 2: 0 1', 9, 7, 'column rest 2: 1 1']
+>>> [lower_upper(led(g, "ratio"))[0].text, lower_upper(led(g, "ratio"))[1].text]
+['grid ratio: 1/1 0/1; 2/1 1/1', 'grid ratio: 2/1 1/1; 0/1 3/1']
+>>> solution(g, Column((1, 1)))
+raises NotAField(kind='whole')
+'''
+
+ROOTS = r'''
+>>> from gridwright.resultants import gap, resultant, table_of
+>>> from gridwright.singles import count_singles, number_of_singles, singles
+>>> from gridwright.stretches import count_real, ratio_roots, signs_row
+>>> q = Poly("ratio", (-2, 1))
+>>> [table_of(p, q).text, resultant(p, q).text, gap(Poly("whole", (1, 3, 1))), number_of_singles(2, 4), count_real(Poly("ratio", (-2, 0, 1)), 0, 2), ratio_roots(p)[0][0].text, signs_row(Poly("ratio", (-2, 0, 1)))[1].text, signs_row(Poly("ratio", (-2, 0, 1)))[2].text]
+['grid ratio: 1/1 0/1 -1/1; 1/1 -2/1 0/1; 0/1 1/1 -2/1', '3/1', 5, 3, 1, '-1/1', 'poly ratio: (0/1,2/1)', 'poly ratio: (2/1)']
+>>> parts_by_2 = singles(Poly("rest 2", (1, 1, 0, 1, 1)))
+>>> [parts_by_2[0][0].text, parts_by_2[0][1], parts_by_2[1][0].text, parts_by_2[1][1]]
+['poly rest 2: (1,1)', 2, 'poly rest 2: (1,1,1)', 1]
+'''
+
+LATTICES = r'''
+>>> from gridwright.wholestairs import whole_stair
+>>> from gridwright.lattices import common_minor, completed, filled, lattice_index, lattice_meet, member_bar, member_by, plain_base
+>>> from gridwright.wholesolving import whole_bar, whole_noughts, whole_solution
+>>> from gridwright.sublattices import lattice_at, lattices_number
+>>> w = Grid(((2, 0), (1, 3)))
+>>> [whole_stair(w).rows, whole_stair(Grid(((4, 6), (6, 9)))).rows, member_by(w, Column((3, 3))).entries, member_by(w, Column((1, 0))), lattice_meet(Grid(((2, 0), (0, 1))), Grid(((1, 0), (0, 3))))[1].entries, lattice_index(w, Grid(((1, 0), (0, 1))))]
+[((1, 3), (0, 6)), ((2, 3), (0, 0)), (1, 1), None, (0, 3), 6]
+>>> [filled(Grid(((2, 4),)))[0].entries, completed(Grid(((2, 4),))), common_minor(w, 1), whole_solution(Grid(((2, 3),)), Column((1,))).entries, whole_noughts(Grid(((2, 3),)))[0].entries, whole_solution(Grid(((2, 4),)), Column((3,))), lattices_number(2, 6), lattice_at(2, 2, 0).rows, lattice_at(2, 2, 1).rows, lattice_at(2, 2, 2).rows]
+[(1, 2), None, 1, (2, -1), (3, -2), None, 12, ((1, 0), (0, 2)), ((1, 1), (0, 2)), ((2, 0), (0, 1))]
+'''
+
+GROUPS = r'''
+>>> from gridwright.cores import core_numbers
+>>> from gridwright.groups import Group, count_of_order, leads_number, members
+>>> from gridwright.restsolving import first_rest_solution, rest_bar, rest_cores, rest_solutions
+>>> from gridwright.lifting import lifted_inverse, turnings_number
+>>> r = Group(Grid(((2, 4), (6, 8))))
+>>> [core_numbers(w), core_numbers(Grid(((2, 4), (6, 8)))), r.sizes, r.number, r.order_of(Column((1, 1))), count_of_order(r, 1), count_of_order(r, 2), count_of_order(r, 4), leads_number(r, Group(Grid(((4,),)))), Group(Grid(((2, 0, 0),))).text]
+[(1, 6), (2, 4), (2, 4), 8, 4, 1, 3, 4, 8, '2 0 0']
+>>> s = led(Grid(((2, 4), (6, 8))), "rest 12")
+>>> [rest_cores(s), rest_solutions(s, led(Column((2, 2)), "rest 12")), first_rest_solution(s, led(Column((2, 2)), "rest 12")).text, rest_solutions(s, led(Column((1, 0)), "rest 12")), lifted_inverse(Grid(((1, 2), (3, 4))), 3, 2).rows, turnings_number(2, 4)]
+[(2, 4), 8, 'column rest 12: 5 1', 0, ((7, 1), (6, 4)), 96]
+'''
+
+# Of the lines that stand in that section these are the parts that need neither chains nor what follows them.
+FORMS = r'''
+>>> from gridwright.letters import letter_grid, own_poly, poly_at
+>>> from gridwright.followers import block_form, core_polys, follower
+>>> from gridwright.similar import is_alike, telling_poly
+>>> c, two = led(Grid(((2, 1), (0, 2))), "ratio"), led(Grid(((2, 0), (0, 2))), "ratio")
+>>> [own_poly(c).text, core_polys(two)[0].text, len(core_polys(two)), block_form(c).text, telling_poly(c, two).text]
+['poly ratio: (4/1,-4/1,1/1)', 'poly ratio: (-2/1,1/1)', 2, 'grid ratio: 0/1 -4/1; 1/1 4/1', 'poly ratio: (-2/1,1/1)']
+>>> f = led(Grid(((0, 1), (1, 0))), "rest 2")
+>>> [is_alike(f, led(Grid(((1, 1), (0, 1))), "rest 2")), own_poly(g).text]
+[True, 'poly whole: (6,-7,1)']
 '''
 
 
@@ -86,10 +142,10 @@ def answer_of(code, names):
 class Examples(unittest.TestCase):
     def test_each_line_tells_what_the_document_says(self):
         names, answers = {}, 0
-        for code, answer in steps((NUMBERS, POLYS, GRIDS, DETERMINANTS, STAIRS)):
+        for code, answer in steps((NUMBERS, POLYS, GRIDS, DETERMINANTS, STAIRS, ROOTS, LATTICES, GROUPS, FORMS)):
             if answer is None:
                 exec(code, names)
             else:
                 self.assertEqual(answer_of(code, names), answer)
                 answers += 1
-        self.assertEqual(answers, 12)
+        self.assertEqual(answers, 22)

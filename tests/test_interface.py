@@ -6,6 +6,7 @@ from importlib import import_module
 
 from gridwright.columns import Column
 from gridwright.grids import Grid
+from gridwright.groups import Group
 from gridwright.polys import Poly
 from gridwright.ratios import Ratio
 from gridwright.rests import Rest
@@ -57,6 +58,58 @@ FUNCTIONS = {
         "base_of(columns)", "is_free(columns)", "in_span(columns, column)", "relation(columns)", "chosen(columns)",
         "sum_base(columns, others)", "meet_base(columns, others)", "bar_base(columns)",
     ),
+    "solving": (
+        "nought_base(grid)", "solution(grid, column)", "bar(grid, column)", "solutions_number(grid, column)",
+        "solution_at(grid, column, index)", "solve_grid(grid, other)",
+    ),
+    "halves": (
+        "left_inverse(grid)", "right_inverse(grid)", "inner_inverse(grid)", "lower_upper(grid)", "ordered_triangles(grid)",
+    ),
+    "resultants": ("table_of(poly, other)", "resultant(poly, other)", "gap(poly)"),
+    "singles": (
+        "singles(poly)", "count_singles(poly)", "is_single(poly)", "keeping_grid(poly)", "number_of_singles(prime, degree)",
+        "roots_of(poly)",
+    ),
+    "stretches": (
+        "ratio_roots(poly)", "signs_row(poly)", "count_real(poly, low, high)", "stretches(poly)",
+        "narrowed(poly, low, high, width)",
+    ),
+    "wholestairs": ("whole_stair(grid)", "whole_turning(grid)", "is_whole_stair(grid)", "whole_rank(grid)"),
+    "lattices": (
+        "plain_base(grid)", "same_lattice(grid, other)", "lies_within(grid, other)", "member_by(grid, column)",
+        "member_bar(grid, column)", "plain_member(grid, column)", "lattice_sum(grid, other)", "lattice_meet(grid, other)",
+        "filled(grid)", "is_filled(grid)", "lattice_index(grid, other)", "common_minor(grid, size)", "completed(grid)",
+    ),
+    "wholesolving": ("whole_solution(grid, column)", "whole_bar(grid, column)", "whole_noughts(grid)"),
+    "sublattices": ("lattices_number(size, index)", "lattice_at(size, index, place)", "place_of_lattice(grid)"),
+    "cores": (
+        "core_numbers(grid)", "core_grid(grid)", "core_turnings(grid)", "are_led(grid, other)", "parting_size(grid, other)",
+    ),
+    "groups": (
+        "are_alike(group, other)", "members(group)", "count_of_order(group, order)", "leads_number(group, other)",
+        "makers(group)", "group_sum(group, other)", "without(group, column)",
+    ),
+    "restsolving": (
+        "rest_cores(grid)", "are_rest_led(grid, other)", "rest_solutions(grid, column)", "first_rest_solution(grid, column)",
+        "all_rest_solutions(grid, column)", "rest_bar(grid, column)",
+    ),
+    "lifting": (
+        "parted(grid)", "put_together(grids)", "lifted_inverse(grid, prime, power)", "turnings_number(size, modulus)",
+        "turning_at(size, prime, index)",
+    ),
+    "letters": (
+        "letter_grid(grid)", "poly_at(poly, grid)", "poly_on(poly, grid, column)", "own_poly(grid)", "diagonal_sums(grid)",
+    ),
+    "rounds": (
+        "column_poly(grid, column)", "round_of(grid, column)", "least_poly(grid)", "full_column(grid)",
+        "kept_base(grid, columns)", "is_kept(grid, columns)",
+    ),
+    "followers": (
+        "follower(poly)", "follower_blocks(polys)", "core_polys(grid)", "block_form(grid)", "block_turning(grid)",
+    ),
+    "similar": (
+        "is_alike(grid, other)", "leading_grid(grid, other)", "telling_poly(grid, other)", "poly_rank(poly, grid)",
+    ),
 }
 SIGNS = "__add__ __radd__ __sub__ __rsub__ __mul__ __rmul__ __neg__ __pow__ __eq__ __bool__"
 CLASSES = {
@@ -69,9 +122,13 @@ CLASSES = {
              "__add__ __sub__ __mul__ __rmul__ __neg__ __eq__ __bool__ __len__", ("entry(index)",)),
     Grid: (Grid(((1, 2),)), "grids", "(rows)", "rows kind shape columns is_square turned text",
            "__add__ __sub__ __mul__ __rmul__ __neg__ __pow__ __eq__ __bool__ __len__ __getitem__", ("power(exponent)", "row(index)")),
+    Group: (Group(Grid(((2, 4),))), "groups", "(relations)", "relations width sizes number prime_sizes text", "__eq__",
+            ("plain(column)", "order_of(column)")),
 }
 ORDER = ("limits", "errors", "ratios", "rests", "polys", "kinds", "dividing", "meeting", "columns", "grids", "leading",
-         "blocks", "dets", "minors", "sides", "stairs", "spans")
+         "blocks", "dets", "minors", "sides", "stairs", "spans", "solving", "halves", "resultants", "singles", "stretches",
+         "wholestairs", "lattices", "wholesolving", "sublattices", "cores", "groups", "restsolving", "lifting", "letters",
+         "rounds", "followers", "similar")
 
 
 class Interface(unittest.TestCase):
