@@ -4,7 +4,7 @@ from gridwright.checks import check_alike_kinds, check_same_shape
 from gridwright.coring import core_turnings_of, cores_of
 from gridwright.errors import NotWhole, TooMany
 from gridwright.grids import Grid, check_grid
-from gridwright.kinds import coefficient_kind, is_field, nought, one
+from gridwright.kinds import coefficient_kind, is_field, nought
 
 _MOST_SIDE_OF_POLYS = 5
 
@@ -36,7 +36,6 @@ def _check_pair(grid, other):
     _check_kind(other)
     check_alike_kinds((grid, other))
     check_same_shape(grid, other)
-    _check_not_too_great(grid)
 
 
 def core_numbers(grid):
@@ -71,16 +70,7 @@ def are_led(grid, other):
 def parting_size(grid, other):
     """The least size with unlike products of the first core numbers; None if the grids are led into one another."""
     _check_pair(grid, other)
-    products, others = _products(grid), _products(other)
-    unlike = [k + 1 for k in range(len(products)) if products[k] != others[k]]
+    form, other_form = core_grid(grid), core_grid(other)
+    # Up to the first unlike entries the products are alike, and none of them is nought.
+    unlike = [k + 1 for k in range(min(grid.shape[0], grid.shape[1])) if form.rows[k][k] != other_form.rows[k][k]]
     return unlike[0] if unlike else None
-
-
-def _products(grid):
-    """The list of the products of the first core numbers, by all sizes, nought where there are less."""
-    cores, total = core_numbers(grid), one(grid.kind)
-    found = []
-    for size in range(min(grid.shape[0], grid.shape[1])):
-        total = total * (cores[size] if size < len(cores) else 0)
-        found.append(total)
-    return found

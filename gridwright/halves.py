@@ -40,8 +40,6 @@ def inner_inverse(grid):
 
 def lower_upper(grid):
     """The pair (L, U) of triangles whose product a square grid is, its rows in the order as they stand."""
-    _check_field_grid(grid)
-    check_square(grid)
     order, lower, upper = ordered_triangles(grid)
     for k in range(len(grid) - 1):
         # The first order of rows in which there are triangles departs where a leading minor is nought.

@@ -138,7 +138,6 @@ def is_filled(grid):
 
 def lattice_index(grid, other):
     """The index of the first lattice in the second one; None if their ranks are unlike."""
-    _check_pair(grid, other)
     if not lies_within(grid, other):
         raise NotWithin()
     inner, outer = _base(grid), _base(other)

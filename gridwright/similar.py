@@ -50,6 +50,4 @@ def poly_rank(poly, grid):
     check_poly(poly)
     check_grid(grid)
     check_fields((poly, grid))
-    check_alike_kinds((poly, grid))
-    check_square(grid)
     return rank(poly_at(poly, grid))

@@ -71,7 +71,7 @@ def _parted_by(poly, telling):
             left = left // shared
             rest = rest % left
         number += 1
-    return found + [left] if left.degree > 0 else found
+    return found + [left]
 
 
 def count_singles(poly):

@@ -48,9 +48,7 @@ def ratio_roots(poly):
     if ahead > 0:
         found.append((Ratio(0), ahead))
     for root in _candidates(wholes[ahead:]):
-        many = _times_a_root(poly, root)
-        if many > 0:
-            found.append((root, many))
+        found.append((root, _times_a_root(poly, root)))
     _, tops = over_one_bottom([root for root, _ in found])
     return tuple([found[at] for _, at in sorted([(top, k) for k, top in enumerate(tops)])])
 

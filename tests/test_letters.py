@@ -170,4 +170,7 @@ class Refusals(Told):
             self.refuses(NotSquare((3, 2)), poly_on, poly=Poly(kind, (1,)), grid=nought_grid(kind, 3, 2), column=led(Column((1, 2)), kind))
         for kind in KINDS:
             self.refuses(NotSquare((1, 8)), diagonal_sums, grid=nought_grid(kind, 1, 8))
+        # Also where nothing has to be multiplied.
+        self.refuses(InvalidShape((2, 2), (3, 1)), poly_on, poly=Poly("ratio", ()), grid=nought_grid("ratio", 2, 2),
+                     column=Column((Ratio(1), 2, 3)))
         self.refuses(InvalidShape((2, 2), (3, 1)), poly_on, poly=ratio, grid=nought_grid("ratio", 2, 2), column=Column((Ratio(1), 2, 3)))
