@@ -25,7 +25,7 @@ class Column:
     @staticmethod
     def read(text):
         """The column with this text."""
-        column = _column_or_none(text)
+        column = column_or_none(text)
         if column is None:
             raise InvalidText(text)
         return column
@@ -77,8 +77,8 @@ class Column:
         return self.entries[index]
 
 
-def _column_or_none(text):
-    """The column with this text; None if there is none."""
+def column_or_none(text):
+    """The column with this text, which may be any value; None if there is none."""
     if not isinstance(text, str) or not text.startswith("column "):
         return None
     kind, _, inner = text[7:].partition(": ")

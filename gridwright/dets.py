@@ -6,7 +6,7 @@ from gridwright.expanding import determinant, side_rows
 from gridwright.grids import Grid, check_grid, order_sign
 from gridwright.kinds import is_field, nought, one
 from gridwright.quotients import next_table
-from gridwright.wholes import inverse_by_whole, is_prime, is_whole_number, lies_between
+from gridwright.wholes import inverse_by_whole, is_prime, is_whole_number, lies_between, next_prime
 
 _MOST_BY_ORDERS = 6
 _MOST_TOLD_PRIME = 1000
@@ -113,18 +113,10 @@ def det_rests(grid):
     pairs = [(2, number % 2)]
     together, prime = 2, 2
     while together <= 2 * bound:
-        prime = _next_prime(prime)
+        prime = next_prime(prime)
         together = together * prime
         pairs.append((prime, number % prime))
     return tuple(pairs)
-
-
-def _next_prime(prime):
-    """The least prime above one."""
-    found = prime + 1
-    while not is_prime(found):
-        found += 1
-    return found
 
 
 def from_rests(pairs, bound):

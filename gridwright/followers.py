@@ -1,10 +1,11 @@
 """Followers of polys, core polys, and the block forms that they make."""
 
 from gridwright.blocks import put_blocks
-from gridwright.checks import check_fields, check_monic, check_poly, check_square
+from gridwright.checks import check_fields, check_monic, check_poly
 from gridwright.columns import Column
 from gridwright.errors import InvalidPolys, TooMany
-from gridwright.grids import Grid, check_grid, from_columns
+from gridwright.fieldgrids import check_field_square
+from gridwright.grids import Grid, from_columns
 from gridwright.kinds import is_field, nought, one
 from gridwright.limits import MOST_SIDE
 from gridwright.polys import Poly
@@ -48,15 +49,9 @@ def follower_blocks(polys):
     return put_blocks(tuple([follower(poly) for poly in polys]))
 
 
-def _check_square_grid(grid):
-    check_grid(grid)
-    check_fields((grid,))
-    check_square(grid)
-
-
 def core_polys(grid):
     """The tuple of the core polys, each dividing the next one."""
-    _check_square_grid(grid)
+    check_field_square(grid)
     return tuple([poly for _, poly in _block_pairs(grid)])
 
 
@@ -67,7 +62,7 @@ def block_form(grid):
 
 def block_turning(grid):
     """A turning grid T for which the grid times T is T times its block form."""
-    _check_square_grid(grid)
+    check_field_square(grid)
     walks = [walk_from(grid, column, poly.degree) for column, poly in _block_pairs(grid)]
     return from_columns(tuple([place for walk in walks for place in walk]))
 

@@ -35,7 +35,7 @@ class Grid:
     @staticmethod
     def read(text):
         """The grid with this text."""
-        grid = _grid_or_none(text)
+        grid = grid_or_none(text)
         if grid is None:
             raise InvalidText(text)
         return grid
@@ -153,8 +153,8 @@ def check_product(grid, other):
         raise InvalidShape(grid.shape, other.shape)
 
 
-def _grid_or_none(text):
-    """The grid with this text; None if there is none."""
+def grid_or_none(text):
+    """The grid with this text, which may be any value; None if there is none."""
     if not isinstance(text, str) or not text.startswith("grid "):
         return None
     kind, _, inner = text[5:].partition(": ")

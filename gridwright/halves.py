@@ -1,21 +1,16 @@
 """One-sided and inner inverses, and triangles, of grids over a field."""
 
-from gridwright.checks import check_fields, check_square
 from gridwright.errors import NoInverse, NoTriangles
-from gridwright.grids import Grid, check_grid
+from gridwright.fieldgrids import check_field_grid, check_field_square
+from gridwright.grids import Grid
 from gridwright.kinds import nought, one, unit_inverse
 from gridwright.stairs import stair_turning, step_places
 from gridwright.tables import row_less
 
 
-def _check_field_grid(grid):
-    check_grid(grid)
-    check_fields((grid,))
-
-
 def left_inverse(grid):
     """A grid that makes a one grid with this one on the right."""
-    _check_field_grid(grid)
+    check_field_grid(grid)
     width = grid.shape[1]
     if len(step_places(grid)) < width:
         raise NoInverse()
@@ -24,13 +19,13 @@ def left_inverse(grid):
 
 def right_inverse(grid):
     """A grid that makes a one grid with this one on the left."""
-    _check_field_grid(grid)
+    check_field_grid(grid)
     return left_inverse(grid.turned).turned
 
 
 def inner_inverse(grid):
     """A grid that leaves this one as it is if it stands between it and itself."""
-    _check_field_grid(grid)
+    check_field_grid(grid)
     height, width = grid.shape
     turning, places = stair_turning(grid), step_places(grid)
     nothing = tuple([nought(grid.kind) for _ in range(height)])
@@ -50,8 +45,7 @@ def lower_upper(grid):
 
 def ordered_triangles(grid):
     """The triple of an order and of the triangles L, U whose product the rows of a square grid in this order are."""
-    _check_field_grid(grid)
-    check_square(grid)
+    check_field_square(grid)
     order = []
     factors = []
     upper = []

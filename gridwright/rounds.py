@@ -3,18 +3,13 @@
 from gridwright.checks import check_alike_kinds, check_as_long, check_fields, check_square
 from gridwright.columns import Column, check_column, check_columns
 from gridwright.dividing import common, least_multiple
+from gridwright.fieldgrids import check_field_square
 from gridwright.grids import check_grid
 from gridwright.letters import poly_on
 from gridwright.polys import Poly
 from gridwright.spans import base_of, sum_base
 from gridwright.stepping import led_to_stairs
 from gridwright.tables import one_rows, turned_rows
-
-
-def _check_grid(grid):
-    check_grid(grid)
-    check_fields((grid,))
-    check_square(grid)
 
 
 def _check_with_column(grid, column):
@@ -66,14 +61,14 @@ def round_of(grid, column):
 
 def least_poly(grid):
     """The monic poly of least degree that is nought at a grid."""
-    _check_grid(grid)
+    check_field_square(grid)
     _, poly = full_pair(grid)
     return poly
 
 
 def full_column(grid):
     """A column whose least poly is that of the grid."""
-    _check_grid(grid)
+    check_field_square(grid)
     column, _ = full_pair(grid)
     return column
 

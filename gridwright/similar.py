@@ -1,6 +1,7 @@
 """Grids that are alike, what leads one to the other, or the poly that tells them apart."""
 
-from gridwright.checks import check_alike_kinds, check_fields, check_poly, check_same_shape, check_square
+from gridwright.checks import check_fields, check_poly
+from gridwright.fieldgrids import check_field_squares
 from gridwright.followers import block_turning, core_polys
 from gridwright.grids import Grid, check_grid
 from gridwright.inverting import inverse_rows
@@ -8,20 +9,9 @@ from gridwright.letters import poly_at
 from gridwright.stairs import rank
 
 
-def _check_pair(grid, other):
-    """That these are two square grids over one field and of one shape."""
-    check_grid(grid)
-    check_grid(other)
-    check_fields((grid, other))
-    check_alike_kinds((grid, other))
-    check_square(grid)
-    check_square(other)
-    check_same_shape(grid, other)
-
-
 def is_alike(grid, other):
     """Whether some turning grid leads one grid to the other."""
-    _check_pair(grid, other)
+    check_field_squares(grid, other)
     return core_polys(grid) == core_polys(other)
 
 
@@ -35,7 +25,7 @@ def leading_grid(grid, other):
 
 def telling_poly(grid, other):
     """A core poly of either grid with unlike ranks at both; None if they are alike."""
-    _check_pair(grid, other)
+    check_field_squares(grid, other)
     polys, others = core_polys(grid), core_polys(other)
     if polys == others:
         return None

@@ -7,8 +7,8 @@ from gridwright.grids import Grid, check_grid
 from gridwright.kinds import nought, number_of
 from gridwright.scalars import modulus_of
 from gridwright.stairs import free_places
-from gridwright.stepping import base_rows, filled_up, led_to_stairs, nought_rows, solved
-from gridwright.tables import one_rows, rows_beside, turned_rows
+from gridwright.stepping import barring, base_rows, filled_up, led_to_stairs, nought_rows, solved
+from gridwright.tables import rows_beside
 from gridwright.wholes import lies_between, raised
 
 
@@ -47,11 +47,8 @@ def solution(grid, column):
 def bar(grid, column):
     """A bar whose products with the column add up to 1; None if there is a solution."""
     _check_equation(grid, column)
-    height, width = grid.shape
-    # What the steps do to the rows of the one grid tells which sums of rows they have made.
-    whole_rows = rows_beside(rows_beside(grid.rows, turned_rows([column.entries])), one_rows(grid.kind, height))
-    stair, places = led_to_stairs(whole_rows, width + 1)
-    return Column(stair[len(places) - 1][width + 1:]) if width in places else None
+    numbers = barring(grid.kind, grid.rows, column.entries)
+    return None if numbers is None else Column(numbers)
 
 
 def solutions_number(grid, column):

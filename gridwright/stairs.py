@@ -4,6 +4,7 @@ from gridwright.checks import (
     check_alike_kinds, check_between, check_fields, check_index, check_not_nought, check_prime, check_same_shape,
 )
 from gridwright.columns import Column
+from gridwright.fieldgrids import check_field_grid
 from gridwright.grids import Grid, check_grid
 from gridwright.inverting import inverse_rows
 from gridwright.limits import MOST_SIDE
@@ -13,21 +14,16 @@ from gridwright.tables import ascending_tuples, one_rows, rows_beside
 from gridwright.wholes import raised
 
 
-def _check_field_grid(grid):
-    check_grid(grid)
-    check_fields((grid,))
-
-
 def stair_form(grid):
     """The one grid in stairs to which steps of rows lead."""
-    _check_field_grid(grid)
+    check_field_grid(grid)
     stair, _ = led_to_stairs(grid.rows, grid.shape[1])
     return Grid(stair)
 
 
 def step_places(grid):
     """The ascending tuple of the places of the pivots."""
-    _check_field_grid(grid)
+    check_field_grid(grid)
     _, places = led_to_stairs(grid.rows, grid.shape[1])
     return places
 
@@ -44,7 +40,7 @@ def rank(grid):
 
 def stair_turning(grid):
     """The turning grid that stands behind the stair form, in that of the grid with the one grid beside."""
-    _check_field_grid(grid)
+    check_field_grid(grid)
     height, width = grid.shape
     stair, _ = led_to_stairs(rows_beside(grid.rows, one_rows(grid.kind, height)), width + height)
     return Grid(tuple([row[width:] for row in stair]))
@@ -52,7 +48,7 @@ def stair_turning(grid):
 
 def rank_parts(grid):
     """The pair of the columns at the step places, and of the rows of the stair form that are not nought."""
-    _check_field_grid(grid)
+    check_field_grid(grid)
     check_not_nought((grid,))
     base = base_rows(grid.rows, grid.shape[1])
     places = step_places(grid)
@@ -61,7 +57,7 @@ def rank_parts(grid):
 
 def both_turnings(grid):
     """A pair of turning grids that lead a grid, from the left and from the right, to ones at (i, i) and noughts."""
-    _check_field_grid(grid)
+    check_field_grid(grid)
     return stair_turning(grid), stair_turning(stair_form(grid).turned).turned
 
 

@@ -1,7 +1,7 @@
 """Steps of rows over a field, for any number of rows, and what they lead to."""
 
 from gridwright.kinds import nought, one, unit_inverse
-from gridwright.tables import row_less, row_times, rows_beside
+from gridwright.tables import one_rows, row_less, row_times, rows_beside
 
 
 def _first_filled(rows, place, start):
@@ -57,6 +57,15 @@ def nought_rows(kind, rows, width):
 def filled_up(kind, numbers, width):
     """The row with these numbers at their places, and noughts elsewhere."""
     return tuple([numbers.get(place, nought(kind)) for place in range(width)])
+
+
+def barring(kind, rows, sums):
+    """Numbers whose products with the sums add up to 1, and with each place of the rows to 0; None if none are."""
+    width = len(rows[0])
+    # What the steps do to the rows of the one grid tells which sums of rows they have made.
+    behind = rows_beside([(number,) for number in sums], one_rows(kind, len(rows)))
+    stair, places = led_to_stairs(rows_beside(rows, behind), width + 1)
+    return stair[len(places) - 1][width + 1:] if width in places else None
 
 
 def solved(kind, rows, sums):

@@ -53,6 +53,14 @@ def is_prime(number):
     return number > 1
 
 
+def next_prime(prime):
+    """The least prime above one."""
+    found = prime + 1
+    while not is_prime(found):
+        found += 1
+    return found
+
+
 def inverse_by_whole(number, modulus):
     """What makes 1 with the number by a modulus from 2 on; None if nothing does."""
     upper, lower = modulus, number % modulus

@@ -11,6 +11,7 @@ from gridwright import errors
 from gridwright.columns import Column
 from gridwright.grids import Grid, nought_grid
 from gridwright.groups import Group
+from gridwright.looks import Looks
 from gridwright.polys import Poly
 from gridwright.ratios import Ratio
 from support import same
@@ -65,7 +66,7 @@ def snapshot(value):
     """All that a value holds, throughout."""
     if isinstance(value, (tuple, list)):
         return [snapshot(part) for part in value]
-    if isinstance(value, (Column, Grid, Ratio, Poly, Group)):
+    if isinstance(value, (Column, Grid, Ratio, Poly, Group, Looks)):
         return [(name, snapshot(part)) for name, part in vars(value).items()]
     return repr(value)
 

@@ -107,18 +107,42 @@ GROUPS = r'''
 [(2, 4), 8, 'column rest 12: 5 1', 0, ((7, 1), (6, 4)), 96]
 '''
 
-# Of the lines that stand in that section these are the parts that need neither chains nor what follows them.
 FORMS = r'''
 >>> from gridwright.letters import letter_grid, own_poly, poly_at
 >>> from gridwright.followers import block_form, core_polys, follower
 >>> from gridwright.similar import is_alike, telling_poly
+>>> from gridwright.chains import chain_form
+>>> from gridwright.commuting import commuting_number, is_lone
+>>> from gridwright.classes import alike_number, class_number, round_number
 >>> c, two = led(Grid(((2, 1), (0, 2))), "ratio"), led(Grid(((2, 0), (0, 2))), "ratio")
->>> [own_poly(c).text, core_polys(two)[0].text, len(core_polys(two)), block_form(c).text, telling_poly(c, two).text]
-['poly ratio: (4/1,-4/1,1/1)', 'poly ratio: (-2/1,1/1)', 2, 'grid ratio: 0/1 -4/1; 1/1 4/1', 'poly ratio: (-2/1,1/1)']
+>>> [own_poly(c).text, core_polys(two)[0].text, len(core_polys(two)), block_form(c).text, chain_form(c).text, commuting_number(c), commuting_number(two), is_lone(two), telling_poly(c, two).text]
+['poly ratio: (4/1,-4/1,1/1)', 'poly ratio: (-2/1,1/1)', 2, 'grid ratio: 0/1 -4/1; 1/1 4/1', 'grid ratio: 2/1 0/1; 1/1 2/1', 2, 4, False, 'poly ratio: (-2/1,1/1)']
 >>> f = led(Grid(((0, 1), (1, 0))), "rest 2")
->>> [is_alike(f, led(Grid(((1, 1), (0, 1))), "rest 2")), own_poly(g).text]
-[True, 'poly whole: (6,-7,1)']
+>>> [round_number(f), class_number(2, 2), alike_number(f), chain_form(f).text, is_alike(f, led(Grid(((1, 1), (0, 1))), "rest 2")), own_poly(g).text]
+[2, 6, 3, 'grid rest 2: 1 0; 1 1', True, 'poly whole: (6,-7,1)']
 '''
+
+RUNS = r'''
+>>> from gridwright.runs import is_only, least_rule, reach, run_bar
+>>> from gridwright.farruns import far, product_rule, rule_round
+>>> from gridwright.leaning import closest, distance, leaning_grid, mate, nearest, nearest_poly, square_parts
+>>> rabbits = least_rule("ratio", (1, 1, 2, 3, 5, 8))
+>>> [rabbits.text, is_only("ratio", (1, 1, 2, 3, 5, 8)), reach("ratio", (0, 0, 1)), far("ratio", (0, 1), rabbits, 10).text, product_rule(rabbits, rabbits).text, rule_round(led(rabbits, "poly rest 3"))]
+['poly ratio: (-1/1,-1/1,1/1)', True, 3, '55/1', 'poly ratio: (1/1,-1/1,-4/1,-1/1,1/1)', 8]
+>>> m = Grid(((1, 0), (1, 1), (1, 2)))
+>>> [closest(m, Column((0, 0, 3))).text, nearest(m, Column((0, 0, 3))).text, distance(m, Column((0, 0, 3))).text, square_parts(m)[0].text, square_parts(m)[1].text, mate(Grid(((1, 1), (0, 0)))).text, nearest_poly(((0, 0), (1, 0), (2, 3)), 1).text]
+['column ratio: -1/2 3/2', 'column ratio: -1/2 1/1 5/2', '3/2', 'grid ratio: 1/1 -1/1; 1/1 0/1; 1/1 1/1', 'grid ratio: 1/1 1/1; 0/1 1/1', 'grid ratio: 1/2 0/1; 1/2 0/1', 'poly ratio: (-1/2,3/2)']
+'''
+
+# Of the lines that stand in that section these are the ones that speak of looks.
+LOOKS = r'''
+>>> from gridwright.looks import Looks, fitting_number, ranks, sure
+>>> told = Looks("rest 3", (2, 2), ((led(Column((1, 1)), "rest 3"), led(Column((0, 2)), "rest 3")),))
+>>> [sure(told, led(Column((2, 2)), "rest 3")).text, sure(told, led(Column((1, 0)), "rest 3")), ranks(told), fitting_number(told, 0), fitting_number(told, 1), fitting_number(told, 2)]
+['column rest 3: 0 1', None, (1, 2), 0, 3, 6]
+'''
+
+BLOCKS = (NUMBERS, POLYS, GRIDS, DETERMINANTS, STAIRS, ROOTS, LATTICES, GROUPS, FORMS, RUNS, LOOKS)
 
 
 def steps(blocks):
@@ -142,10 +166,10 @@ def answer_of(code, names):
 class Examples(unittest.TestCase):
     def test_each_line_tells_what_the_document_says(self):
         names, answers = {}, 0
-        for code, answer in steps((NUMBERS, POLYS, GRIDS, DETERMINANTS, STAIRS, ROOTS, LATTICES, GROUPS, FORMS)):
+        for code, answer in steps(BLOCKS):
             if answer is None:
                 exec(code, names)
             else:
                 self.assertEqual(answer_of(code, names), answer)
                 answers += 1
-        self.assertEqual(answers, 22)
+        self.assertEqual(answers, 25)

@@ -7,6 +7,7 @@ from importlib import import_module
 from gridwright.columns import Column
 from gridwright.grids import Grid
 from gridwright.groups import Group
+from gridwright.looks import Looks
 from gridwright.polys import Poly
 from gridwright.ratios import Ratio
 from gridwright.rests import Rest
@@ -110,6 +111,34 @@ FUNCTIONS = {
     "similar": (
         "is_alike(grid, other)", "leading_grid(grid, other)", "telling_poly(grid, other)", "poly_rank(poly, grid)",
     ),
+    "standing": ("standing_numbers(grid)", "standing_base(grid, number)", "diagonal_turning(grid)"),
+    "chains": (
+        "chain_grid(kind, number, size)", "chain_form(grid)", "chain_turning(grid)", "chain_count(grid, number, size)",
+    ),
+    "commuting": (
+        "commutes(grid, other)", "commuting_number(grid)", "commuting_base(grid)", "is_lone(grid)", "poly_for(grid, other)",
+        "both_commuting(grid, other)",
+    ),
+    "classes": ("round_number(grid)", "class_number(prime, size)", "alike_number(grid)"),
+    "runs": (
+        "is_rule(kind, run, rule)", "reach(kind, run)", "least_rule(kind, run)", "is_only(kind, run)",
+        "rule_of(kind, run, size)", "run_bar(kind, run, size)", "run_table(kind, run, height)",
+        "gone_on(kind, run, rule, many)",
+    ),
+    "farruns": (
+        "far(kind, run, rule, index)", "sum_rule(poly, other)", "product_rule(poly, other)", "step_rule(poly, step)",
+        "rule_round(poly)",
+    ),
+    "leaning": (
+        "length(column)", "product_grid(grid)", "across(grid)", "nearest(grid, column)", "distance(grid, column)",
+        "closest(grid, column)", "leaning_grid(grid)", "is_leaning(grid)", "square_parts(grid)", "mate(grid)",
+        "nearest_poly(points, degree)",
+    ),
+    "looks": (
+        "quarrel(looks)", "fitting(looks)", "fits(looks, grid)", "sure(looks, column)", "sure_places(looks)",
+        "looks_left(looks)", "free_numbers(looks)", "ranks(looks)", "fitting_number(looks, rank)", "even_fitting(looks)",
+        "even_sure(looks, row, column)",
+    ),
 }
 SIGNS = "__add__ __radd__ __sub__ __rsub__ __mul__ __rmul__ __neg__ __pow__ __eq__ __bool__"
 CLASSES = {
@@ -124,11 +153,13 @@ CLASSES = {
            "__add__ __sub__ __mul__ __rmul__ __neg__ __pow__ __eq__ __bool__ __len__ __getitem__", ("power(exponent)", "row(index)")),
     Group: (Group(Grid(((2, 4),))), "groups", "(relations)", "relations width sizes number prime_sizes text", "__eq__",
             ("plain(column)", "order_of(column)")),
+    Looks: (Looks("ratio", (1, 2), ()), "looks", "(kind, shape, pairs)", "kind shape pairs", "__eq__", ("saw(x, y)",)),
 }
 ORDER = ("limits", "errors", "ratios", "rests", "polys", "kinds", "dividing", "meeting", "columns", "grids", "leading",
          "blocks", "dets", "minors", "sides", "stairs", "spans", "solving", "halves", "resultants", "singles", "stretches",
          "wholestairs", "lattices", "wholesolving", "sublattices", "cores", "groups", "restsolving", "lifting", "letters",
-         "rounds", "followers", "similar")
+         "rounds", "followers", "similar", "standing", "chains", "commuting", "classes", "runs", "farruns", "leaning",
+         "looks")
 
 
 class Interface(unittest.TestCase):
