@@ -6,7 +6,7 @@ from gridwright.errors import NotWhole, TooMany
 from gridwright.grids import Grid, check_grid
 from gridwright.kinds import coefficient_kind, is_field, nought
 
-_MOST_SIDE_OF_POLYS = 5
+MOST_SIDE_OF_POLYS = 5
 
 
 def _check_kind(grid):
@@ -18,7 +18,7 @@ def _check_kind(grid):
 def _check_not_too_great(grid):
     """That a grid of polys is not too great."""
     side = max(grid.shape[0], grid.shape[1])
-    if grid.kind != "whole" and side > _MOST_SIDE_OF_POLYS:
+    if grid.kind != "whole" and side > MOST_SIDE_OF_POLYS:
         raise TooMany(side)
 
 

@@ -153,7 +153,7 @@ def nearest_poly(points, degree):
     """The poly up to a degree by which the squares of what points lie away from it add up to the least sum."""
     pairs = _checked_points(points)
     check_between(degree, 0, _MOST_DEGREE)
-    many = len({place.text: True for place, _ in pairs})
+    many = len({(place.top, place.bottom): True for place, _ in pairs})
     if many <= degree:
         raise TooFew(many)
     # There may be more points than rows in a grid: a row for each power of their first numbers is enough.

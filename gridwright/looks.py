@@ -70,7 +70,7 @@ def _is_column(kind, size, value):
     return isinstance(value, Column) and value.kind == kind and len(value) == size
 
 
-def _check_looks(value):
+def check_looks(value):
     """That a value is looks."""
     if not isinstance(value, Looks):
         raise NotLooks(value)
@@ -89,7 +89,7 @@ def _check_width(looks, column):
         raise InvalidShape(looks.shape, column.shape)
 
 
-def _check_column_beside(looks, column):
+def check_column_beside(looks, column):
     """That a value is a column that the hidden grid can be asked to lead."""
     check_column(column)
     _check_kinds(looks, (column,))
@@ -127,7 +127,7 @@ def numbers_to(looks, column):
 
 def quarrel(looks):
     """Numbers by which the looked x add up to nought, and the y do not; None if there are none."""
-    _check_looks(looks)
+    check_looks(looks)
     for numbers in nought_rows(looks.kind, _side_by_side(looks), len(looks.pairs)):
         # If all of these lead the y to nought, so do all others, which are sums of them.
         if _sum_of_seen(looks, numbers):
@@ -148,7 +148,7 @@ def fitting(looks):
 
 def fits(looks, grid):
     """Whether a grid fits all looks."""
-    _check_looks(looks)
+    check_looks(looks)
     check_grid(grid)
     if grid.kind != looks.kind or grid.shape != looks.shape:
         return False
@@ -157,8 +157,8 @@ def fits(looks, grid):
 
 def sure(looks, column):
     """What all grids that fit lead a column to; None if that is not the same."""
-    _check_looks(looks)
-    _check_column_beside(looks, column)
+    check_looks(looks)
+    check_column_beside(looks, column)
     _check_fitting(looks)
     return _sure_of(looks, column)
 
@@ -170,7 +170,7 @@ def _sure_of(looks, column):
 
 def sure_places(looks):
     """The ascending tuple of the indexes of the columns of the hidden grid that are sure."""
-    _check_looks(looks)
+    check_looks(looks)
     _check_fitting(looks)
     columns = [Column(row) for row in one_rows(looks.kind, looks.shape[1])]
     return tuple([place for place, column in enumerate(columns) if numbers_to(looks, column) is not None])
@@ -178,7 +178,7 @@ def sure_places(looks):
 
 def looks_left(looks):
     """How many looks more are the fewest that can make all columns sure."""
-    _check_looks(looks)
+    check_looks(looks)
     _check_fitting(looks)
     return looks.shape[1] - len(base_rows(_looked(looks), looks.shape[1]))
 
@@ -198,7 +198,7 @@ def ranks(looks):
 
 def fitting_number(looks, rank):
     """How many grids of a rank fit, by a prime."""
-    _check_looks(looks)
+    check_looks(looks)
     check_between(rank, 0, MOST_SIDE)
     check_rests((looks,))
     least, _ = ranks(looks)
@@ -219,7 +219,7 @@ def _check_square(looks):
 
 def even_fitting(looks):
     """An even grid that fits; None if there is none."""
-    _check_looks(looks)
+    check_looks(looks)
     _check_square(looks)
     if quarrel(looks) is not None:
         return None
@@ -243,7 +243,7 @@ def _told_product(columns, seen, at, other):
 
 def even_sure(looks, row, column):
     """The sum of products of one column and of what all even grids that fit lead another one to; None if not one."""
-    _check_looks(looks)
+    check_looks(looks)
     check_column(row)
     check_column(column)
     _check_kinds(looks, (row, column))

@@ -58,7 +58,7 @@ def told(call, arguments):
     """The error that a call raises, or what it tells."""
     try:
         return call(**arguments)
-    except (errors.WrongValue, errors.NoAnswer) as error:
+    except (errors.WrongValue, errors.WrongName, errors.NoAnswer) as error:
         return error
 
 

@@ -134,15 +134,51 @@ RUNS = r'''
 ['column ratio: -1/2 3/2', 'column ratio: -1/2 1/1 5/2', '3/2', 'grid ratio: 1/1 -1/1; 1/1 0/1; 1/1 1/1', 'grid ratio: 1/1 1/1; 0/1 1/1', 'grid ratio: 1/2 0/1; 1/2 0/1', 'poly ratio: (-1/2,3/2)']
 '''
 
-# Of the lines that stand in that section these are the ones that speak of looks.
 LOOKS = r'''
 >>> from gridwright.looks import Looks, fitting_number, ranks, sure
+>>> from gridwright.places import lots, placed, plain_number, ring_quarrel
 >>> told = Looks("rest 3", (2, 2), ((led(Column((1, 1)), "rest 3"), led(Column((0, 2)), "rest 3")),))
 >>> [sure(told, led(Column((2, 2)), "rest 3")).text, sure(told, led(Column((1, 0)), "rest 3")), ranks(told), fitting_number(told, 0), fitting_number(told, 1), fitting_number(told, 2)]
 ['column rest 3: 0 1', None, (1, 2), 0, 3, 6]
+>>> seen = ((0, 0, 2), (0, 1, 3), (1, 0, 4))
+>>> [placed("ratio", (2, 2), seen, 1, 1).text, lots("ratio", (2, 3), seen), ring_quarrel("ratio", (2, 2), seen), plain_number("rest 5", (2, 3), seen)]
+['6/1', (((), (2,)), ((0, 1), (0, 1))), None, 4]
 '''
 
-BLOCKS = (NUMBERS, POLYS, GRIDS, DETERMINANTS, STAIRS, ROOTS, LATTICES, GROUPS, FORMS, RUNS, LOOKS)
+WORKING = r'''
+>>> from gridwright.benches import Bench
+>>> from gridwright.deeds import done, turning_of
+>>> from gridwright.shelves import Shelf
+>>> bench = Bench(Grid(((2, 4), (6, 8))), "both")
+>>> bench.do(("add", 1, 0, -3))
+>>> bench.do(("column", ("add", 1, 0, -2)))
+>>> bench.do(("scale", 1, -1))
+>>> [bench.now.rows, bench.left.rows, bench.right.rows, bench.is_goal(), bench.undo(), bench.now.rows, len(bench)]
+[((2, 0), (0, 4)), ((1, 0), (3, -1)), ((1, -2), (0, 1)), True, None, ((2, 0), (0, -4)), 2]
+>>> shelf = Shelf()
+>>> shelf.put_all((("a", g), ("b", w), ("c", g * w)))
+>>> shelf.wish(("product", "a", "b", "c"))
+>>> shelf.wish(("determinant", "a", "6"))
+>>> [shelf.names, shelf.changes, "a" in shelf, shelf.named("c").rows]
+[('a', 'b', 'c'), 3, True, ((5, 3), (13, 15))]
+>>> shelf.put("b", g)
+raises Broken(index=0)
+'''
+
+CHECKS = r'''
+>>> from gridwright.checker import accepts
+>>> from gridwright.consoles import Console
+>>> [accepts(("barred", "grid whole: 2 4; 6 8", "column whole: 2 1"), "column ratio: 0/1 1/2"), accepts(("not turning", "grid whole: 2 0; 0 1"), "column ratio: 1/2 0/1"), accepts(("rank", "grid ratio: 0/1", 0), ()), accepts(("mate", "grid ratio: 1/1 1/1; 0/1 0/1", "grid ratio: 1/2 0/1; 1/2 0/1"), ())]
+[True, True, True, True]
+>>> console = Console(Bench(led(Grid(((1, 1), (0, 2))), "ratio"), "turn"))
+>>> [console.say("add 0 1 1/1"), console.say("now"), console.say("left"), console.say("deeds"), console.say("determinant"), console.say("undo"), console.say("now")]
+['done', 'grid ratio: 1/1 2/1; 0/1 2/1', 'grid ratio: 1/1 1/1; 0/1 1/1', 'add 0 1 1/1', '2/1', 'done', 'grid ratio: 1/1 1/1; 0/1 2/1']
+'''
+
+BLOCKS = (
+    NUMBERS, POLYS, GRIDS, DETERMINANTS, STAIRS, ROOTS, LATTICES, GROUPS, FORMS, RUNS,
+    LOOKS, WORKING, CHECKS,
+)
 
 
 def steps(blocks):
@@ -172,4 +208,4 @@ class Examples(unittest.TestCase):
             else:
                 self.assertEqual(answer_of(code, names), answer)
                 answers += 1
-        self.assertEqual(answers, 25)
+        self.assertEqual(answers, 31)

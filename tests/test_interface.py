@@ -4,13 +4,16 @@ import inspect
 import unittest
 from importlib import import_module
 
+from gridwright.benches import Bench
 from gridwright.columns import Column
+from gridwright.consoles import Console
 from gridwright.grids import Grid
 from gridwright.groups import Group
 from gridwright.looks import Looks
 from gridwright.polys import Poly
 from gridwright.ratios import Ratio
 from gridwright.rests import Rest
+from gridwright.shelves import Shelf
 
 FUNCTIONS = {
     "ratios": ("square_root(number)",),
@@ -139,6 +142,24 @@ FUNCTIONS = {
         "looks_left(looks)", "free_numbers(looks)", "ranks(looks)", "fitting_number(looks, rank)", "even_fitting(looks)",
         "even_sure(looks, row, column)",
     ),
+    "places": (
+        "ring_quarrel(kind, shape, places)", "plain_grid(kind, shape, places)", "lots(kind, shape, places)",
+        "placed(kind, shape, places, i, j)", "plain_number(kind, shape, places)",
+    ),
+    "deeds": (
+        "is_deed(kind, size, value)", "done(grid, deed)", "done_at_columns(grid, deed)", "way_back(kind, deed)",
+        "turning_of(kind, size, deeds)", "deeds_of(grid)",
+    ),
+    "logs": ("played(grid, mode, log)", "way_home(kind, log)", "drawn_together(kind, log)"),
+    "wishes": ("is_wish(value)", "names_in(wish)", "holds(wish, pairs)"),
+    "checker": ("accepts(claim, paper)",),
+    "certificates": (
+        "certify_turning(grid)", "certify_rank(grid)", "certify_stairs(grid)", "certify_whole_stairs(grid)",
+        "certify_cores(grid)", "certify_blocks(grid)", "certify_alike(grid, other)", "certify_least(grid)",
+        "certify_solution(grid, column)", "certify_member(grid, column)", "certify_rows(grid, other)",
+        "certify_determinant(grid)", "certify_common(poly, other)", "certify_single(poly)", "certify_least_rule(kind, run)",
+        "certify_nearest(grid, column)", "certify_mate(grid)", "certify_look(looks, column)",
+    ),
 }
 SIGNS = "__add__ __radd__ __sub__ __rsub__ __mul__ __rmul__ __neg__ __pow__ __eq__ __bool__"
 CLASSES = {
@@ -154,12 +175,19 @@ CLASSES = {
     Group: (Group(Grid(((2, 4),))), "groups", "(relations)", "relations width sizes number prime_sizes text", "__eq__",
             ("plain(column)", "order_of(column)")),
     Looks: (Looks("ratio", (1, 2), ()), "looks", "(kind, shape, pairs)", "kind shape pairs", "__eq__", ("saw(x, y)",)),
+    Bench: (Bench(Grid(((1,),)), "rows"), "benches", "(grid, mode)",
+            "start now mode left left_inverse right right_inverse log", "__eq__ __bool__ __len__",
+            ("do(deed)", "undo()", "is_goal()", "ways()", "finish()", "trial()", "tried(action)")),
+    Shelf: (Shelf(), "shelves", "()", "names wishes changes", "__eq__ __bool__ __len__ __contains__",
+            ("put(name, grid)", "put_all(pairs)", "named(name)", "drop(name)", "wish(wish)", "lift(index)", "undo()", "trial()",
+             "tried(action)")),
+    Console: (Console(Bench(Grid(((1,),)), "rows")), "consoles", "(bench)", "bench", "__eq__", ("say(line)",)),
 }
 ORDER = ("limits", "errors", "ratios", "rests", "polys", "kinds", "dividing", "meeting", "columns", "grids", "leading",
          "blocks", "dets", "minors", "sides", "stairs", "spans", "solving", "halves", "resultants", "singles", "stretches",
          "wholestairs", "lattices", "wholesolving", "sublattices", "cores", "groups", "restsolving", "lifting", "letters",
          "rounds", "followers", "similar", "standing", "chains", "commuting", "classes", "runs", "farruns", "leaning",
-         "looks")
+         "looks", "places", "deeds", "benches", "logs", "wishes", "shelves", "checker", "certificates", "consoles")
 
 
 class Interface(unittest.TestCase):

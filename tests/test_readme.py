@@ -14,7 +14,9 @@ class Readme(unittest.TestCase):
         for block in re.findall(r"```python\n(.*?)```", README.read_text(encoding="utf-8"), re.S):
             rows = block.split("\n")
             for node in ast.parse(block).body:
-                told = [row.partition("  # ")[2].strip() for row in rows[node.end_lineno - 1:node.end_lineno + 1] if "  # " in row]
+                # Behind the code, or, where that is too long, in a row below that has nothing else.
+                near = rows[node.end_lineno - 1:node.end_lineno] + [row for row in rows[node.end_lineno:][:1] if row.startswith("  ")]
+                told = [row.partition("  # ")[2].strip() for row in near if "  # " in row]
                 if isinstance(node, ast.Expr) and told:
                     value = eval(compile(ast.Expression(node.value), "README.md", "eval"), names)
                     self.assertEqual(repr(value), told[0])
