@@ -1,8 +1,7 @@
 """Claims that are so, with papers that show them to the checker."""
 
 from gridwright.checks import (
-    check_alike_kinds, check_fields, check_poly, check_same_height, check_same_width, check_square,
-    check_wholes_or_fields,
+    check_alike_kinds, check_fields, check_poly, check_same_width, check_square, check_wholes_or_fields,
 )
 from gridwright.columns import Column, check_column, dot
 from gridwright.cores import core_turnings
@@ -141,7 +140,6 @@ def certify_solution(grid, column):
     check_column(column)
     _check_solvable((grid, column))
     check_alike_kinds((grid, column))
-    check_same_height(grid, column)
     found, barring = _solved_and_barred(grid, column)
     if found is None:
         return ("barred", grid.text, column.text), barring.text

@@ -50,7 +50,6 @@ def alike_number(grid):
     prime, size = modulus_of(grid.kind), len(grid)
     if prime >= MOST_PRIME:
         raise NotRests(grid.kind)
-    check_square(grid)
     commuting = 1
     for degree, shares in _shares_of_singles(core_polys(grid)):
         commuting = commuting * _commuting_turnings(raised(1, prime, degree), shares)

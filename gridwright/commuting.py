@@ -1,7 +1,7 @@
 """Grids that commute with square grids over a field, and polys at which one grid is another one."""
 
 from gridwright.dividing import common
-from gridwright.fieldgrids import check_field_square, check_field_squares
+from gridwright.fieldgrids import check_field_squares
 from gridwright.followers import block_turning, core_polys
 from gridwright.grids import Grid
 from gridwright.inverting import inverse_rows
@@ -26,7 +26,6 @@ def commuting_number(grid):
 
 def commuting_base(grid):
     """A tuple of grids of which all that commute with a grid are sums of numbers times them."""
-    check_field_square(grid)
     turning = block_turning(grid)
     back = Grid(inverse_rows(grid.kind, turning.rows))
     return tuple([turning * inner * back for inner in _base_at_blocks(core_polys(grid))])

@@ -64,12 +64,6 @@ def step_rule(poly, step):
     """A rule that the numbers at each so-many-th index of runs by a rule keep."""
     check_poly(poly)
     check_between(step, 1, MOST_POWER)
-    check_fields((poly,))
-    if poly.degree == 0:
-        raise NotMonic(poly)
-    _check_monic(poly)
-    if poly.degree > MOST_SIDE:
-        raise TooMany(poly.degree)
     return own_poly(follower(poly).power(step))
 
 
@@ -77,7 +71,6 @@ def rule_round(poly):
     """The least number of steps after which each run by a rule over a prime comes again."""
     check_poly(poly)
     check_rests((poly,))
-    check_fields((poly,))
     _check_monic(poly)
     if not poly.coefficients[0]:
         raise NoRound()

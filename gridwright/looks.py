@@ -97,7 +97,7 @@ def check_column_beside(looks, column):
 
 
 def _check_fitting(looks):
-    """That some grid fits."""
+    """That a value is looks which some grid fits."""
     if quarrel(looks) is not None:
         raise Quarrels()
 
@@ -170,7 +170,6 @@ def _sure_of(looks, column):
 
 def sure_places(looks):
     """The ascending tuple of the indexes of the columns of the hidden grid that are sure."""
-    check_looks(looks)
     _check_fitting(looks)
     columns = [Column(row) for row in one_rows(looks.kind, looks.shape[1])]
     return tuple([place for place, column in enumerate(columns) if numbers_to(looks, column) is not None])
@@ -178,7 +177,6 @@ def sure_places(looks):
 
 def looks_left(looks):
     """How many looks more are the fewest that can make all columns sure."""
-    check_looks(looks)
     _check_fitting(looks)
     return looks.shape[1] - len(base_rows(_looked(looks), looks.shape[1]))
 
@@ -221,8 +219,6 @@ def even_fitting(looks):
     """An even grid that fits; None if there is none."""
     check_looks(looks)
     _check_square(looks)
-    if quarrel(looks) is not None:
-        return None
     size = looks.shape[0]
     columns = tuple([x for x, _ in looks.pairs]) + tuple([Column(row) for row in one_rows(looks.kind, size)])
     seen = {at: y for at, (_, y) in enumerate(looks.pairs)}

@@ -33,7 +33,7 @@ def check_rule(kind, rule):
     check_poly(rule)
     if rule.kind != kind:
         raise Unlike(kind, rule.kind)
-    if not rule or rule.lead != one(kind):
+    if rule.lead != one(kind):
         raise NotMonic(rule)
 
 

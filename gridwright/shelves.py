@@ -1,10 +1,10 @@
 """Shelves that keep grids under names, and wishes that hold after each change."""
 
 from gridwright.checks import check_index
-from gridwright.errors import Broken, InUse, InvalidName, InvalidWish, NothingToUndo, UnknownName
+from gridwright.errors import Broken, InUse, InvalidName, NothingToUndo, UnknownName
 from gridwright.grids import check_grid
 from gridwright.trials import Trial
-from gridwright.wishes import check_names, grids_by_name, holds_with, is_name, is_wish, names_in
+from gridwright.wishes import check_names, grids_by_name, holds_with, is_name, names_in
 
 
 class Store:
@@ -80,8 +80,6 @@ class Shelf:
 
     def wish(self, wish):
         """A wish more, behind the others."""
-        if not is_wish(wish):
-            raise InvalidWish(wish)
         grids = self._held[0].grids
         check_names(wish, grids)
         if not holds_with(wish, grids):

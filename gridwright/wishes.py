@@ -155,7 +155,7 @@ def grids_by_name(pairs):
 
 
 def check_names(wish, grids):
-    """That there is a grid under each name of a wish."""
+    """That a value is a wish, and there is a grid under each name of it."""
     for name in names_in(wish):
         if name not in grids:
             raise UnknownName(name)

@@ -231,6 +231,8 @@ class Goals(Told):
             x = Poly(kind[5:], (0, 1))
             self.reaches(Grid(((x, 0), (0, x - 1))), "both")
             self.reaches(Grid(((x * 2, 0), (0, 1))), "both")
+            self.reaches(diagonal_grid(kind, (x, 1, x + 1, 0, 2)), "both")
+            self.reaches(nought_grid(kind, 5, 1), "both")
 
     def test_other_kinds_have_none(self):
         for kind in ("rest 4", "rest 6", "rest 1000000", "poly whole"):

@@ -187,7 +187,7 @@ class Refusals(Told):
         self.tells(x ** 9, sum_rule, poly=one, other=x ** 9)
         for poly, other in ((one, one), (one, x ** 9), (x, one)):
             self.refuses(TooMany(0), product_rule, poly=poly, other=other)
-        for poly, other in ((x ** 9, x), (x ** 3, x ** 3), (x, x ** 64)):
+        for poly, other in ((x ** 9, x), (x ** 3, x ** 3), (x, x ** 64), (x ** 12, x ** 2), (x ** 3, x ** 10)):
             self.refuses(TooMany(poly.degree * other.degree), product_rule, poly=poly, other=other)
 
     def test_of_steps(self):

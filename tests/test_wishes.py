@@ -128,6 +128,8 @@ class Holding(Told):
         for size in (5, 6):
             self.says(size == 5, ("cores", "a", ("(1/1)",) * size), a=one_grid("poly ratio", size))
         self.says(False, ("cores", "a", ()), a=nought_grid("poly rest 3", 1, 6))
+        self.says(False, ("cores", "a", ()), a=nought_grid("poly rest 3", 6, 1))
+        self.says(True, ("cores", "a", ()), a=nought_grid("poly rest 3", 5, 1))
 
     def test_polys_that_are_nought(self):
         for grid in self.some("noughts"):
@@ -137,7 +139,8 @@ class Holding(Told):
                 for other in (poly, poly + 1, poly * 2, Poly(grid.kind, ()), Poly(grid.kind, (0, 1)), Poly(grid.kind, (-1, 1))):
                     self.says(not poly_at(other, grid), ("nought at", "a", written(other)), a=grid)
             else:
-                self.says(False, ("nought at", "a", "()"), a=grid)
+                for text in ("()", "0", "1", "(0)"):
+                    self.says(False, ("nought at", "a", text), a=grid)
         for text in ("", "0", "(1,)", "(0)", "poly whole: (6,-7,1)", "(6/1,-7/1,1/1)", "x"):
             self.says(False, ("nought at", "a", text), a=Grid(((2, 1), (4, 5))))
         self.says(True, ("nought at", "a", "(6,-7,1)"), a=Grid(((2, 1), (4, 5))))
